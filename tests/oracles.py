@@ -1,0 +1,149 @@
+"""Webs to test with, and slow answers that follow the document's words step by step."""
+
+import copy
+import itertools
+import random
+
+from botheven import errors
+
+KITE = (4, ((0, 1), (1, 2), (2, 3), (0, 3), (0, 2)))
+TRIPLE = (2, ((0, 1), (0, 1), (0, 1)))
+TRIANGLE = (3, ((0, 1), (0, 2), (1, 2)))
+SQUARE = (4, ((0, 1), (1, 2), (2, 3), (0, 3)))
+FULL = (4, ((0, 1), (0, 2), (0, 3), (1, 2), (1, 3), (2, 3)))
+BOW = (5, ((0, 1), (1, 2), (0, 2), (0, 3), (3, 4), (0, 4)))
+ALONE = (1, ())
+ROW = (12, tuple((k, k + 1) for k in range(11)))
+DOUBLED = (12, ROW[1] * 2)
+CROWDED = (12, tuple(itertools.combinations(range(12), 2))[:40])
+WIDE = (12, ROW[1] + ((0, 11),) * 29)
+
+ODD_VALUES = (
+    None, True, False, 0, 1, -1, 2, 10 ** 399, -10 ** 399, "", "1:", "2: 0-1", "star", "\n", "x" * 20000,
+    (), (0,), (1,), (True,), (False,), (0, True), (None,), ("0",), ((),), ([],), (0, 1), (1, 0), (0, 0),
+    (0, (0, 1)), ((0, 1),), [], [0], [0, 1], [1, ()], [[0, 1]], {}, {0: 1}, {"a": [1, {"b": ()}]}, (1, ()),
+    (1, []), (True, ()), (2, ((False, 1),)), (2, ((False, True),)), ("star", 0, 1), ("round", (), 1), (0,) * 4000,
+    tuple(range(4000)), (0, 10 ** 399), (0, 1, 2, 3, 4, 5), errors.Unfit(), errors.Thin((0,)), (errors.BothError(),),
+    ("lot", (0, 1)), (({},),), ({}, []), (0, None), (0, "1"), (0, [1]), (0, -1), (-1, 0),
+)
+
+
+def nested(depth):
+    """Return a tuple of tuples that is nested so deep."""
+    value = ()
+    for _ in range(depth):
+        value = (value, 1)
+    return value
+
+
+ODD_VALUES = ODD_VALUES + (nested(39),)
+
+
+def joined(web):
+    """Tell whether ways lead from place 0 to all places."""
+    many, ties = web
+    met = {0}
+    for _ in range(many):
+        for one, other in ties:
+            if one in met or other in met:
+                met |= {one, other}
+    return len(met) == many
+
+
+def some_webs():
+    """Return webs of all sorts that are small enough to try all their lots."""
+    found = [ALONE, KITE, TRIPLE, TRIANGLE, SQUARE, FULL, BOW]
+    found += [(2, ((0, 1),) * many) for many in range(1, 6)]
+    pairs = ((0, 1), (0, 2), (1, 2))
+    for many in (2, 3, 4):
+        found += [(3, ties) for ties in itertools.product(pairs, repeat=many) if joined((3, ties))]
+    rng = random.Random(1)
+    for many in (4, 5, 6):
+        found += [random_web(rng, many, rng.randint(many - 1, 9)) for _ in range(12)]
+    return found
+
+
+def random_web(rng, many, count):
+    """Return a web with so many places and ties, count being large enough."""
+    names = list(range(many))
+    rng.shuffle(names)
+    ties = [(names[rng.randrange(k)], names[k]) for k in range(1, many)]
+    while len(ties) < count:
+        ties.append(tuple(rng.sample(range(many), 2)))
+    rng.shuffle(ties)
+    return (many, tuple(tuple(sorted(tie)) for tie in ties))
+
+
+def row(web, lot):
+    return tuple(1 if tie in lot else 0 for tie in range(len(web[1])))
+
+
+def all_lots_of(web):
+    """Return all lots of the web, in order."""
+    numbers = range(len(web[1]))
+    found = [lot for many in range(len(web[1]) + 1) for lot in itertools.combinations(numbers, many)]
+    return sorted(found, key=lambda lot: row(web, lot))
+
+
+def even(web, lot):
+    return all(sum(web[1][tie].count(place) for tie in lot) % 2 == 0 for place in range(web[0]))
+
+
+def even_lots(web):
+    return [lot for lot in all_lots_of(web) if even(web, lot)]
+
+
+def all_cuts(web):
+    """Return a dict: each cut, with the places without 0 whose cut it is."""
+    found = {}
+    for many in range(web[0]):
+        for places in itertools.combinations(range(1, web[0]), many):
+            cut = tuple(k for k, (one, other) in enumerate(web[1]) if (one in places) != (other in places))
+            found[cut] = places
+    return found
+
+
+def all_rounds_of(web):
+    """Return all even lots of which no part but () and itself is even, in order."""
+    evens = [lot for lot in even_lots(web) if lot]
+    return [lot for lot in evens if not any(set(part) < set(lot) for part in evens)]
+
+
+def both_even_lots(web):
+    """Return all lots with an even number of ties at each place and on each round, in order."""
+    found = all_rounds_of(web)
+    return [lot for lot in even_lots(web) if not any(len(set(lot) & set(one)) % 2 for one in found)]
+
+
+def added(*lots):
+    """Return the sum of lots."""
+    total = set()
+    for lot in lots:
+        total ^= set(lot)
+    return tuple(sorted(total))
+
+
+def caught(test, kind, call, *args, **named):
+    """Return the error that a call raises, which is just of this kind."""
+    with test.assertRaises(errors.BothError) as held:
+        call(*args, **named)
+    test.assertIs(type(held.exception), kind)
+    return held.exception
+
+
+def check_call(test, call, named):
+    """Check that a call by place and by name, twice, is the same, and changes nothing it is passed."""
+    kept = copy.deepcopy(named)
+    shown = repr(named)
+    first = outcome(call, *named.values())
+    test.assertEqual(outcome(call, **named), first)
+    test.assertEqual(outcome(call, **kept), first)
+    test.assertEqual(repr(named), shown)
+
+
+def outcome(call, *args, **named):
+    """Return in words what a call returns or raises."""
+    try:
+        return repr(call(*args, **named))
+    except errors.BothError as error:
+        return f"raises {type(error).__name__} {vars(error)!r}"

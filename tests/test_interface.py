@@ -1,0 +1,84 @@
+"""The bounds, the errors, and the names of the interface: where they stand and what they take."""
+
+import copy
+import importlib
+import inspect
+import unittest
+
+from botheven import bounds, errors
+
+BOUNDS = {
+    "MAX_PLACES": 12, "MAX_TIES": 40, "MAX_ROUNDS": 500, "MAX_TREES": 500, "MAX_LOTS": 256,
+    "MAX_NUMBER": 1000000000000, "MAX_TIMES": 1000000000000000000000000000000, "MAX_REST": 1000, "MAX_LAMPS": 10,
+    "MAX_NAMES": 6, "BATCH": 12, "MAX_EDITS": 40, "MAX_GAP": 10, "MAX_TOP": 9, "MAX_BOX": 2000,
+    "MAX_POLES": 1000000000000000000000000000000, "MAX_NEST": 20, "MAX_NAMED": 8, "MAX_MOVES": 1000,
+}
+
+ERRORS = {
+    "Unfit": None, "BadText": None, "BadWeb": "error", "BadStanding": "error", "Thin": "lot", "Apart": "lot",
+    "Sloped": "slope", "Held": "held", "TooMany": "limit", "NoName": "given", "NoTie": "given", "Taken": "given",
+    "NoWay": "reached", "BadLog": "place", "BadBatch": None, "Rejected": "index", "TooManyEdits": None,
+    "NothingToUndo": None, "NothingToRedo": None, "NoVersion": "given",
+}
+
+FUNCTIONS = {
+    "webs": {"web_error": "value", "ties_at": "web place", "matrix_of": "web"},
+    "webtexts": {"web_text": "web", "read_web": "value"},
+    "lots": {
+        "lot_error": "web value", "sum_of": "lots", "cut_of": "web places", "is_even": "web lot", "is_cut": "web lot",
+        "places_of_cut": "web lot",
+    },
+    "rounds": {"is_round": "web lot", "rounds": "web", "parted_even": "web lot", "tree_rounds": "web"},
+}
+
+
+class Interface(unittest.TestCase):
+    def test_bounds(self):
+        for name, worth in BOUNDS.items():
+            self.assertIs(type(getattr(bounds, name)), int, name)
+            self.assertEqual(getattr(bounds, name), worth, name)
+
+    def test_errors_stand_directly_under_one(self):
+        self.assertEqual(errors.BothError.__bases__, (ValueError,))
+        for name in ERRORS:
+            self.assertEqual(getattr(errors, name).__bases__, (errors.BothError,), name)
+            self.assertEqual(getattr(errors, name).__module__, "botheven.errors")
+
+    def test_errors_keep_what_they_were_passed(self):
+        for name, word in ERRORS.items():
+            kind = getattr(errors, name)
+            if word is None:
+                self.assertEqual(vars(kind()), {})
+                continue
+            for worth in (None, True, 0, "words", (0, (1,)), [1, [2]], {"a": {}}, errors.Unfit()):
+                for error in (kind(worth), kind(**{word: worth})):
+                    self.assertIs(getattr(error, word), worth)
+                    self.assertEqual(list(vars(error)), [word])
+                    self.assertIsInstance(error, errors.BothError)
+                    self.assertIsInstance(error, ValueError)
+                    self.assertIs(getattr(copy.copy(error), word), worth)
+            self.assertRaises(TypeError, kind)
+
+    def test_errors_may_be_shown(self):
+        for name, word in ERRORS.items():
+            kind = getattr(errors, name)
+            error = kind() if word is None else kind([])
+            self.assertIsInstance(str(error), str)
+            self.assertIsInstance(repr(error), str)
+
+    def test_functions_stand_where_they_are_listed(self):
+        for module, rows in FUNCTIONS.items():
+            found = importlib.import_module("botheven." + module)
+            for name, words in rows.items():
+                function = getattr(found, name)
+                self.assertEqual(function.__module__, "botheven." + module)
+                self.assertEqual(function.__name__, name)
+                told = inspect.signature(function).parameters
+                self.assertEqual(list(told), words.split(), name)
+                for parameter in told.values():
+                    self.assertEqual(parameter.kind, inspect.Parameter.POSITIONAL_OR_KEYWORD)
+                    self.assertIs(parameter.default, inspect.Parameter.empty)
+
+
+if __name__ == "__main__":
+    unittest.main()

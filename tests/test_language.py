@@ -1,0 +1,181 @@
+"""The package keeps to the plain subset of Python: the rules that a walk over its syntax can see."""
+
+import ast
+import builtins
+import os
+import re
+import unittest
+
+TOP = os.path.dirname(os.path.dirname(os.path.abspath(__file__)))
+PACKAGE = os.path.join(TOP, "botheven")
+
+STATEMENTS = (
+    ast.Assign, ast.AugAssign, ast.If, ast.While, ast.For, ast.Return, ast.Break, ast.Continue, ast.Pass, ast.Raise,
+    ast.Try, ast.Expr, ast.FunctionDef, ast.ClassDef, ast.ImportFrom,
+)
+NEVER = (ast.GeneratorExp, ast.Set, ast.SetComp, ast.Lambda, ast.Div, ast.Starred, ast.NamedExpr, ast.Yield, ast.Await)
+BUILTINS = (
+    "len", "range", "enumerate", "zip", "min", "max", "sum", "abs", "sorted", "int", "str", "bool", "list", "tuple",
+    "dict", "isinstance", "any", "all", "divmod", "ValueError",
+)
+METHODS = (
+    "append", "bit_length", "count", "endswith", "extend", "find", "get", "index", "insert", "isdigit", "items", "join",
+    "keys", "partition", "pop", "remove", "replace", "split", "startswith", "strip", "values",
+)
+ITERATORS = ("range", "enumerate", "zip", "reversed")
+ITERATING = ("list", "tuple", "dict", "sorted", "sum", "any", "all", "enumerate", "zip", "min", "max", "len")
+WORDS = (
+    "type", "typing", "enum", "Enum", "Flag", "Generic", "Protocol", "ABC", "namedtuple", "dataclass", "abstractmethod",
+    "register", "mro", "elements", "open", "input", "law", "getattr", "setattr", "hasattr", "super", "global", "sys",
+)
+
+
+def files():
+    return sorted(name for name in os.listdir(PACKAGE) if name != "__pycache__")
+
+
+def text_of(name):
+    with open(os.path.join(PACKAGE, name), encoding="utf-8") as file:
+        return file.read()
+
+
+def bound_names(tree):
+    """Return the names that functions, parameters and assignments of a file bind."""
+    found = []
+    for node in ast.walk(tree):
+        if isinstance(node, (ast.FunctionDef, ast.ClassDef)):
+            found.append(node.name)
+        elif isinstance(node, ast.arg):
+            found.append(node.arg)
+        elif isinstance(node, ast.Name) and isinstance(node.ctx, ast.Store):
+            found.append(node.id)
+        elif isinstance(node, ast.ExceptHandler) and node.name:
+            found.append(node.name)
+    return found
+
+
+class Language(unittest.TestCase):
+    def each_file(self):
+        """Return the triples of a file's name, text and tree."""
+        return [(name, text_of(name), ast.parse(text_of(name))) for name in files()]
+
+    def test_files(self):
+        self.assertIn("__init__.py", files())
+        for name, text, _ in self.each_file():
+            self.assertRegex(name, r"^(__init__|[a-z][a-z0-9_]*)\.py$")
+            self.assertFalse(name != "__init__.py" and hasattr(builtins, name[:-3]), name)
+            self.assertTrue(text.endswith("\n"))
+            self.assertLess(text.count("\n"), 400)
+            self.assertRegex(text, r"^[ -~\n]*$")
+            self.assertLessEqual(max(len(line) for line in text.split("\n")), 120)
+
+    def test_functions_are_short(self):
+        for _, _, tree in self.each_file():
+            for node in ast.walk(tree):
+                if isinstance(node, ast.FunctionDef):
+                    self.assertLessEqual(node.end_lineno - node.lineno + 1, 40, node.name)
+                    self.assertIsNotNone(ast.get_docstring(node) or node.name == "__init__" or None, node.name)
+                    self.assertEqual(node.decorator_list, [])
+
+    def test_imports(self):
+        uses = {}
+        for name, _, tree in self.each_file():
+            uses[name] = []
+            for node in ast.walk(tree):
+                self.assertNotIsInstance(node, ast.Import)
+                if isinstance(node, ast.ImportFrom):
+                    self.assertIn(node, tree.body)
+                    self.assertRegex(node.module, r"^botheven\.[a-z]+$")
+                    uses[name].append(node.module[9:] + ".py")
+                    there = ast.parse(text_of(node.module[9:] + ".py"))
+                    known = [part.name for part in there.body if isinstance(part, (ast.FunctionDef, ast.ClassDef))]
+                    known += [part.targets[0].id for part in there.body if isinstance(part, ast.Assign)]
+                    for one in node.names:
+                        self.assertIsNone(one.asname)
+                        self.assertIn(one.name, known)
+                        self.assertGreater(len(re.findall(rf"\b{one.name}\b", text_of(name))), 1, one.name)
+        self.assertEqual(uses["__init__.py"], [])
+        while uses:
+            free = [name for name in uses if not any(other in uses for other in uses[name])]
+            self.assertTrue(free, "files import from each other")
+            for name in free:
+                del uses[name]
+
+    def test_syntax(self):
+        for _, text, tree in self.each_file():
+            for node in ast.walk(tree):
+                self.assertNotIsInstance(node, NEVER)
+                if isinstance(node, ast.stmt):
+                    self.assertIsInstance(node, STATEMENTS)
+                if isinstance(node, ast.Constant):
+                    self.assertNotIsInstance(node.value, (float, complex, bytes))
+                    if isinstance(node.value, str):
+                        self.assertNotIn("%", node.value)
+                if isinstance(node, ast.BinOp) and isinstance(node.op, ast.Pow):
+                    self.assertIsInstance(node.right, ast.Constant)
+                if isinstance(node, (ast.arg, ast.FunctionDef)):
+                    self.assertIsNone(getattr(node, "annotation", None) or getattr(node, "returns", None))
+                if isinstance(node, ast.Compare) and isinstance(node.ops[0], (ast.Is, ast.IsNot)):
+                    self.assertIsInstance(node.comparators[0], ast.Constant)
+            self.assertNotRegex(text, r"\(type\)|Meta|metaclass=|_wall|_WallAttr")
+
+    def test_names(self):
+        for name, _, tree in self.each_file():
+            imported = [one.name for node in tree.body if isinstance(node, ast.ImportFrom) for one in node.names]
+            classes = [node.name for node in tree.body if isinstance(node, ast.ClassDef)]
+            tops = [node.name for node in tree.body if isinstance(node, (ast.FunctionDef, ast.ClassDef))]
+            tops += imported + [node.targets[0].id for node in tree.body if isinstance(node, ast.Assign)]
+            self.assertEqual(len(tops), len(set(tops)))
+            for bound in bound_names(tree):
+                self.assertNotIn(bound, imported)
+                self.assertFalse(bound != "__init__" and hasattr(builtins, bound), bound)
+                self.assertNotIn(bound, WORDS)
+                self.assertRegex(bound, r"^(_?[A-Za-z][A-Za-z0-9_]*|__init__)$")
+            for node in ast.walk(tree):
+                if isinstance(node, ast.arg) or (isinstance(node, ast.Name) and isinstance(node.ctx, ast.Store)):
+                    self.assertNotIn(getattr(node, "arg", None) or getattr(node, "id", None), classes)
+
+    def test_calls(self):
+        for _, _, tree in self.each_file():
+            own = [node.name for node in tree.body if isinstance(node, (ast.FunctionDef, ast.ClassDef))]
+            own += [one.name for node in tree.body if isinstance(node, ast.ImportFrom) for one in node.names]
+            raised = [node.exc for node in ast.walk(tree) if isinstance(node, ast.Raise) and node.exc]
+            self.assertTrue(all(isinstance(one, ast.Call) and isinstance(one.func, ast.Name) for one in raised))
+            for node in ast.walk(tree):
+                if not isinstance(node, ast.Call):
+                    continue
+                if isinstance(node.func, ast.Name):
+                    self.assertIn(node.func.id, list(BUILTINS) + own)
+                elif not (isinstance(node.func.value, ast.Name) and node.func.attr == "__init__"):
+                    self.assertIn(node.func.attr, METHODS)
+
+    def test_ranges_are_iterated_on_the_spot(self):
+        for _, _, tree in self.each_file():
+            fine = []
+            for node in ast.walk(tree):
+                if isinstance(node, (ast.For, ast.comprehension)):
+                    fine.append(node.iter)
+                elif isinstance(node, ast.Call) and isinstance(node.func, ast.Name) and node.func.id in ITERATING:
+                    fine += node.args[:1]
+            for node in ast.walk(tree):
+                if isinstance(node, ast.Call) and isinstance(node.func, ast.Name) and node.func.id in ITERATORS:
+                    self.assertTrue(any(node is one for one in fine), ast.unparse(node))
+                if isinstance(node, ast.Call) and isinstance(node.func, ast.Attribute):
+                    if node.func.attr in ("items", "keys", "values"):
+                        self.assertTrue(any(node is one for one in fine), ast.unparse(node))
+
+    def test_what_a_loop_goes_over_is_not_changed_in_it(self):
+        changing = ("append", "extend", "insert", "pop", "remove")
+        for _, _, tree in self.each_file():
+            for loop in [node for node in ast.walk(tree) if isinstance(node, ast.For)]:
+                over = {node.id for node in ast.walk(loop.iter) if isinstance(node, ast.Name)}
+                for node in [node for part in loop.body for node in ast.walk(part)]:
+                    if isinstance(node, ast.Call) and isinstance(node.func, ast.Attribute):
+                        if node.func.attr in changing:
+                            self.assertNotIn(ast.unparse(node.func.value), over)
+                    if isinstance(node, ast.Subscript) and isinstance(node.ctx, ast.Store):
+                        self.assertNotIn(ast.unparse(node.value), over)
+
+
+if __name__ == "__main__":
+    unittest.main()
