@@ -147,3 +147,60 @@ def outcome(call, *args, **named):
         return repr(call(*args, **named))
     except errors.BothError as error:
         return f"raises {type(error).__name__} {vars(error)!r}"
+
+
+def slow_done(web, numbers, deeds):
+    """Return the numbers behind deeds, each checked to be a deed."""
+    numbers = list(numbers)
+    for word, target, times in deeds:
+        if word == "star":
+            assert type(target) is int and 0 <= target < web[0]
+            touched = [k for k in range(len(web[1])) if target in web[1][k]]
+        else:
+            assert word == "round" and one_closed_way(web, target)
+            touched = target
+        assert type(times) is int and times != 0
+        for tie in touched:
+            numbers[tie] += times
+    return tuple(numbers)
+
+
+def one_closed_way(web, lot):
+    """Tell whether the ties of the lot make one closed way that meets no place twice."""
+    if lot == () or list(lot) != sorted(set(lot)):
+        return False
+    start, place = web[1][lot[0]]
+    met, left = [start], list(lot[1:])
+    while place != start:
+        along = [tie for tie in left if place in web[1][tie]]
+        if place in met or len(along) != 1:
+            return False
+        met.append(place)
+        left.remove(along[0])
+        place = sum(web[1][along[0]]) - place
+    return left == []
+
+
+def thick_webs():
+    """Return webs in which each cut but () has three ties or more, by trying all cuts."""
+    wheel = (6, tuple((0, k) for k in range(1, 6)) + ((1, 2), (2, 3), (3, 4), (4, 5), (1, 5)))
+    sides = (6, tuple((one, other) for one in range(3) for other in range(3, 6)))
+    five = (5, tuple(itertools.combinations(range(5), 2)))
+    cube = (8, tuple((one, one + step) for one in range(8) for step in (1, 2, 4) if one & step == 0))
+    chain = (4, ((0, 1),) * 3 + ((1, 2),) * 4 + ((2, 3),) * 3)
+    found = [ALONE, TRIPLE, FULL, wheel, sides, five, cube, chain] + [(2, ((0, 1),) * many) for many in (4, 5, 6)]
+    rng = random.Random(7)
+    while len(found) < 40:
+        many = rng.randint(3, 6)
+        web = random_web(rng, many, rng.randint(2 * many - 1, 3 * many))
+        if is_thick(web):
+            found.append(web)
+    circle = tuple(tuple(sorted((k, (k + step) % 12))) for k in range(12) for step in (1, 2, 3))
+    for web in ((12, circle), (12, circle + ((0, 6), (1, 7), (0, 1), (0, 1))), (12, ROW[1] * 3)):
+        assert is_thick(web)
+        found.append(web)
+    return found
+
+
+def is_thick(web):
+    return all(len(cut) > 2 for cut in all_cuts(web) if cut)

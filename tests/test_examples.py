@@ -6,7 +6,7 @@ import unittest
 from botheven import errors
 
 FOLDER = os.path.join(os.path.dirname(os.path.abspath(__file__)), "examples")
-PARTS = ("webs_lots_rounds.txt",)
+PARTS = ("webs_lots_rounds.txt", "standings_deeds.txt", "ways_thick.txt", "joined.txt", "both_even_lots.txt")
 
 
 def examples(name):

@@ -29,6 +29,22 @@ FUNCTIONS = {
         "places_of_cut": "web lot",
     },
     "rounds": {"is_round": "web lot", "rounds": "web", "parted_even": "web lot", "tree_rounds": "web"},
+    "standings": {"standing_error": "web value", "difference": "one other"},
+    "deeds": {
+        "deed_error": "web value", "done": "web standing deeds", "undone": "deeds", "told_together": "web deeds",
+        "never_below": "web standing deeds", "lifted": "web standing deeds",
+    },
+    "ways": {"ways": "web one other", "fewest_cut": "web one other"},
+    "thick": {"thin_cut": "web", "twice": "web tie"},
+    "joining": {
+        "joined_by": "web standing other", "is_parting": "web standing other value",
+        "joined_above": "web standing other",
+    },
+    "evens": {
+        "both_error": "web value", "lot_base": "web", "lot_many": "web", "all_lots": "web", "lot_at": "web number",
+        "lot_number": "web lot",
+    },
+    "splits": {"split": "web lot"},
 }
 
 

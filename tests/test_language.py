@@ -130,8 +130,10 @@ class Language(unittest.TestCase):
                 self.assertNotIn(bound, imported)
                 self.assertFalse(bound != "__init__" and hasattr(builtins, bound), bound)
                 self.assertNotIn(bound, WORDS)
-                self.assertRegex(bound, r"^(_?[A-Za-z][A-Za-z0-9_]*|__init__)$")
+                self.assertRegex(bound, r"^(_?[A-Za-z][A-Za-z0-9_]*|__init__|_)$")
             for node in ast.walk(tree):
+                if isinstance(node, ast.Name) and isinstance(node.ctx, ast.Load):
+                    self.assertNotEqual(node.id, "_")
                 if isinstance(node, ast.arg) or (isinstance(node, ast.Name) and isinstance(node.ctx, ast.Store)):
                     self.assertNotIn(getattr(node, "arg", None) or getattr(node, "id", None), classes)
 
