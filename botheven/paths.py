@@ -32,3 +32,8 @@ def ways_from(web, ties, start):
 def places_met(web, ties, start):
     """Return the ascending tuple of the places that ties lead to from start."""
     return tuple(sorted(ways_from(web, ties, start)))
+
+
+def made_one(part, one, other):
+    """Return the names of the parts of all places, the part named other being called one."""
+    return tuple([one if name == other else name for name in part])

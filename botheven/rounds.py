@@ -4,7 +4,7 @@ from botheven.bounds import MAX_ROUNDS
 from botheven.errors import TooMany, Unfit
 from botheven.lots import is_even
 from botheven.masks import lot_behind, mask_of
-from botheven.paths import far_end, ways_from
+from botheven.paths import far_end, made_one, ways_from
 
 
 def is_round(web, lot):
@@ -90,12 +90,11 @@ def parted_even(web, lot):
 def first_tree(web):
     """Return the lot of the ties of the first tree."""
     taken = []
-    part = list(range(web[0]))
+    part = tuple(range(web[0]))
     for tie, (one, other) in enumerate(web[1]):
         if part[one] != part[other]:
             taken.append(tie)
-            gone, kept = part[other], part[one]
-            part = [kept if name == gone else name for name in part]
+            part = made_one(part, part[one], part[other])
     return tuple(taken)
 
 

@@ -1,9 +1,8 @@
 """Thick webs, in which no cut has one tie or two, and ties that are doubled by rounds."""
 
+from botheven.doubling import doubled
 from botheven.errors import Thin
-from botheven.lots import sum_of
-from botheven.rounds import parted_even
-from botheven.ways import narrow_cut, ways
+from botheven.ways import narrow_cut
 
 
 def thin_cut(web):
@@ -29,9 +28,5 @@ def twice(web, tie):
     lot = narrow_cut(web, one, other)
     if lot is not None:
         raise Thin(lot)
-    # A way between the ends that has the tie is the tie alone, so the others go well with it.
-    others = [tuple(sorted(way)) for way in ways(web, one, other) if tie not in way]
-    first, second = others[0], others[1]
-    deeds = [("round", sum_of(((tie,), way)), 1) for way in (first, second)]
-    deeds.extend([("round", lot, -1) for lot in parted_even(web, sum_of((first, second)))])
-    return tuple(deeds)
+    # No other tie makes a cut of two with it, so it has no fellow but itself.
+    return doubled(web, (tie,))

@@ -12,6 +12,9 @@ TRIANGLE = (3, ((0, 1), (0, 2), (1, 2)))
 SQUARE = (4, ((0, 1), (1, 2), (2, 3), (0, 3)))
 FULL = (4, ((0, 1), (0, 2), (0, 3), (1, 2), (1, 3), (2, 3)))
 BOW = (5, ((0, 1), (1, 2), (0, 2), (0, 3), (3, 4), (0, 4)))
+FAT = (2, ((0, 1),) * 4)
+TAIL = (5, KITE[1] + ((3, 4),))
+TRIO = (5, ((0, 2), (1, 2), (0, 3), (1, 3), (0, 4), (1, 4)))
 ALONE = (1, ())
 ROW = (12, tuple((k, k + 1) for k in range(11)))
 DOUBLED = (12, ROW[1] * 2)
@@ -115,6 +118,11 @@ def both_even_lots(web):
     return [lot for lot in even_lots(web) if not any(len(set(lot) & set(one)) % 2 for one in found)]
 
 
+def even_cuts(web):
+    """Return all cuts that are even, in order: what [F1] says that both-even lots are."""
+    return sorted([cut for cut in all_cuts(web) if even(web, cut)], key=lambda lot: row(web, lot))
+
+
 def added(*lots):
     """Return the sum of lots."""
     total = set()
@@ -204,3 +212,85 @@ def thick_webs():
 
 def is_thick(web):
     return all(len(cut) > 2 for cut in all_cuts(web) if cut)
+
+
+def grown_web(rng, most):
+    """Return a web of at most so many places, grown by ties cut in two, doubled and hung on: with many slopes."""
+    many, ties = 2, [(0, 1)] * rng.randint(1, 4)
+    while many < most and len(ties) < 39 and rng.random() < 0.95:
+        deed, tie = rng.choice("cchd"), rng.randrange(len(ties))
+        if deed == "d":
+            ties.append(ties[tie])
+            continue
+        ends = ties.pop(tie) if deed == "c" else (rng.randrange(many), rng.randrange(many))
+        ties += [(end, many) for end in ends[:2 if deed == "c" or rng.random() < 0.6 else 1]]
+        many += 1
+    names = list(range(many))
+    rng.shuffle(names)
+    rng.shuffle(ties)
+    return (many, tuple(tuple(sorted((names[one], names[other]))) for one, other in ties))
+
+
+def bent_webs():
+    """Return webs with bridges, fellows and slopes, small enough to try all their lots."""
+    rng = random.Random(30)
+    found = [TAIL, TRIO, SQUARE, (2, ((0, 1),) * 2), (2, ((0, 1),)), (7, ROW[1][:6]), (5, ROW[1][:4] * 2)]
+    found += [(6, ((0, 1), (1, 2), (0, 2), (2, 3), (3, 4), (3, 5), (4, 5)))]
+    while len(found) < 60:
+        web = grown_web(rng, 7)
+        if len(web[1]) < 10:
+            found.append(web)
+    return found
+
+
+def large_webs():
+    """Return webs of 12 places, with few ties and with 40."""
+    rng = random.Random(31)
+    found = [ROW, DOUBLED, CROWDED, WIDE, (2, ((0, 1),) * 40)]
+    found += [random_web(rng, 12, count) for count in (11, 12, 13, 14, 16, 18, 20, 24, 30, 40)]
+    return found + [grown_web(rng, 12) for _ in range(10)]
+
+
+def stars_of(web):
+    """Return for each place the lot of its ties."""
+    return [tuple(k for k in range(len(web[1])) if place in web[1][k]) for place in range(web[0])]
+
+
+def lattice(vectors):
+    """Return an echelon base of all sums of integer multiples of the vectors."""
+    found, left = [], [list(vector) for vector in vectors]
+    for column in range(len(left[0]) if left else 0):
+        while True:
+            some = sorted((one for one in left if one[column]), key=lambda one: abs(one[column]))
+            left = [one for one in left if not one[column]]
+            if len(some) < 2:
+                break
+            for one in some[1:]:
+                times = one[column] // some[0][column]
+                left.append([item - times * off for item, off in zip(one, some[0])])
+            left.append(some[0])
+        found += [(column, one) for one in some]
+    return found
+
+
+def in_lattice(base, vector):
+    """Tell whether the vector is a sum of integer multiples of the base."""
+    left = list(vector)
+    for column, one in base:
+        if left[column] % one[column]:
+            return False
+        times = left[column] // one[column]
+        left = [item - times * off for item, off in zip(left, one)]
+    return not any(left)
+
+
+def dot(one, other):
+    return sum(item * off for item, off in zip(one, other))
+
+
+def less_by(one, other):
+    return tuple(off - item for item, off in zip(one, other))
+
+
+def random_standing(rng, web, low, high):
+    return tuple(rng.randint(low, high) for _ in web[1])

@@ -11,8 +11,8 @@ from botheven.rounds import rounds
 from botheven.splits import split
 from botheven.webs import matrix_of
 from tests.oracles import ALONE, CROWDED, DOUBLED, FULL, KITE, ODD_VALUES, ROW, SQUARE, TRIANGLE, TRIPLE, WIDE
-from tests.oracles import added, all_cuts, all_lots_of, both_even_lots, caught, check_call, even, one_closed_way
-from tests.oracles import random_web, row, some_webs, thick_webs
+from tests.oracles import added, all_cuts, all_lots_of, both_even_lots, caught, check_call, even, even_cuts
+from tests.oracles import one_closed_way, random_web, some_webs, thick_webs
 
 NINE = (9, tuple((k, k + 1) for k in range(8)) * 2)
 TEN = (10, tuple((k, k + 1) for k in range(9)) * 2)
@@ -22,11 +22,6 @@ def large_webs():
     rng = random.Random(14)
     found = [ROW, DOUBLED, CROWDED, WIDE, NINE, TEN]
     return found + [random_web(rng, 12, count) for count in (11, 14, 20, 30, 40)]
-
-
-def even_cuts(web):
-    """Return all cuts that are even, in order: what [F1] says that both-even lots are."""
-    return sorted([cut for cut in all_cuts(web) if even(web, cut)], key=lambda lot: row(web, lot))
 
 
 class BothError(unittest.TestCase):

@@ -6,7 +6,10 @@ import unittest
 from botheven import errors
 
 FOLDER = os.path.join(os.path.dirname(os.path.abspath(__file__)), "examples")
-PARTS = ("webs_lots_rounds.txt", "standings_deeds.txt", "ways_thick.txt", "joined.txt", "both_even_lots.txt")
+PARTS = (
+    "webs_lots_rounds.txt", "standings_deeds.txt", "ways_thick.txt", "joined.txt", "any_web.txt", "both_even_lots.txt",
+    "trees_factors.txt",
+)
 
 
 def examples(name):

@@ -40,11 +40,25 @@ FUNCTIONS = {
         "joined_by": "web standing other", "is_parting": "web standing other value",
         "joined_above": "web standing other",
     },
+    "classes": {
+        "class_count": "web", "parities": "web standing", "standard": "web standing", "class_at": "web number",
+        "class_number": "web standing",
+    },
+    "fellows": {"fellow_lots": "web", "bridges": "web", "by_rounds": "web one"},
+    "slopes": {"slope_error": "web value", "slope_base": "web"},
+    "marks": {
+        "marks_of": "web one", "class_many": "web", "led_by": "web one other", "is_parted": "web one other value",
+    },
     "evens": {
         "both_error": "web value", "lot_base": "web", "lot_many": "web", "all_lots": "web", "lot_at": "web number",
         "lot_number": "web lot",
     },
+    "colours": {"lot_of": "web colours", "colours_of": "web lot"},
     "splits": {"split": "web lot"},
+    "trees": {"tree_count": "web", "trees": "web", "is_tree": "web value"},
+    "factors": {
+        "heap_factors": "web", "evens_among": "web", "odd_paper": "web", "odd_paper_holds": "web value",
+    },
 }
 
 

@@ -8,21 +8,16 @@ from botheven.errors import Apart, Thin, Unfit
 from botheven.evens import both_error, lot_many
 from botheven.joining import is_parting, joined_above, joined_by
 from botheven.standings import standing_error
-from tests.oracles import ALONE, DOUBLED, FULL, KITE, ODD_VALUES, ROW, SQUARE, TRIANGLE, TRIPLE
-from tests.oracles import all_cuts, all_lots_of, caught, check_call, even, slow_done, some_webs, thick_webs
+from tests.oracles import ALONE, DOUBLED, FAT, FULL, KITE, ODD_VALUES, ROW, SQUARE, TRIANGLE, TRIPLE
+from tests.oracles import all_cuts, all_lots_of, caught, check_call, even_cuts, random_standing, slow_done, some_webs
+from tests.oracles import thick_webs
 
 FAR = 10 ** 12
-FAT = (2, ((0, 1),) * 4)
 
 
 def parting_lots(web, standing, other):
     """Return all both-even lots on which the sums of both standings are unlike modulo 2."""
-    good = [cut for cut in all_cuts(web) if even(web, cut)]
-    return [lot for lot in good if sum(other[tie] - standing[tie] for tie in lot) % 2]
-
-
-def random_standing(rng, web, low, high):
-    return tuple(rng.randint(low, high) for _ in web[1])
+    return [lot for lot in even_cuts(web) if sum(other[tie] - standing[tie] for tie in lot) % 2]
 
 
 class Joined(unittest.TestCase):

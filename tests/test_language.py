@@ -15,12 +15,12 @@ STATEMENTS = (
 )
 NEVER = (ast.GeneratorExp, ast.Set, ast.SetComp, ast.Lambda, ast.Div, ast.Starred, ast.NamedExpr, ast.Yield, ast.Await)
 BUILTINS = (
-    "len", "range", "enumerate", "zip", "min", "max", "sum", "abs", "sorted", "int", "str", "bool", "list", "tuple",
-    "dict", "isinstance", "any", "all", "divmod", "ValueError",
+    "len", "range", "enumerate", "zip", "min", "max", "sum", "abs", "sorted", "reversed", "int", "str", "bool", "list",
+    "tuple", "dict", "isinstance", "any", "all", "divmod", "ValueError",
 )
 METHODS = (
     "append", "bit_length", "count", "endswith", "extend", "find", "get", "index", "insert", "isdigit", "items", "join",
-    "keys", "partition", "pop", "remove", "replace", "split", "startswith", "strip", "values",
+    "keys", "partition", "pop", "remove", "replace", "setdefault", "split", "startswith", "strip", "values",
 )
 ITERATORS = ("range", "enumerate", "zip", "reversed")
 ITERATING = ("list", "tuple", "dict", "sorted", "sum", "any", "all", "enumerate", "zip", "min", "max", "len")
@@ -159,6 +159,8 @@ class Language(unittest.TestCase):
                     fine.append(node.iter)
                 elif isinstance(node, ast.Call) and isinstance(node.func, ast.Name) and node.func.id in ITERATING:
                     fine += node.args[:1]
+                elif isinstance(node, ast.Call) and ast.unparse(node.func) == "reversed":
+                    fine += [one for one in node.args if ast.unparse(one).startswith("range(")]
             for node in ast.walk(tree):
                 if isinstance(node, ast.Call) and isinstance(node.func, ast.Name) and node.func.id in ITERATORS:
                     self.assertTrue(any(node is one for one in fine), ast.unparse(node))
