@@ -1,6 +1,7 @@
 """Webs to test with, and slow answers that follow the document's words step by step."""
 
 import copy
+import functools
 import itertools
 import random
 
@@ -96,6 +97,7 @@ def even_lots(web):
     return [lot for lot in all_lots_of(web) if even(web, lot)]
 
 
+@functools.lru_cache(None)
 def all_cuts(web):
     """Return a dict: each cut, with the places without 0 whose cut it is."""
     found = {}
@@ -106,6 +108,7 @@ def all_cuts(web):
     return found
 
 
+@functools.lru_cache(None)
 def all_rounds_of(web):
     """Return all even lots of which no part but () and itself is even, in order."""
     evens = [lot for lot in even_lots(web) if lot]

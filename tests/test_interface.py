@@ -55,6 +55,18 @@ FUNCTIONS = {
     },
     "colours": {"lot_of": "web colours", "colours_of": "web lot"},
     "splits": {"split": "web lot"},
+    "sorts": {
+        "sort_of": "web tie", "sort_paper": "web tie", "sort_paper_holds": "web tie value", "left_out": "web tie",
+        "pinched": "web tie",
+    },
+    "drawings": {"drawing_error": "value"},
+    "faces": {"faces": "drawing", "dual": "drawing", "dual_places": "drawing"},
+    "turnwalks": {"turn_walks": "drawing", "lot_of_walks": "drawing some", "walks_of_lot": "drawing lot"},
+    "rests": {
+        "classes_modulo": "web k", "joined_modulo": "web k standing other",
+        "parts_modulo": "web k standing other value",
+    },
+    "lamps": {"switched": "web lot deeds", "fewest_deeds": "web lot", "hardest": "web"},
     "trees": {"tree_count": "web", "trees": "web", "is_tree": "web value"},
     "factors": {
         "heap_factors": "web", "evens_among": "web", "odd_paper": "web", "odd_paper_holds": "web value",
