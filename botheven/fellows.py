@@ -3,7 +3,6 @@
 from botheven.deeds import done, told_together
 from botheven.doubling import doubled
 from botheven.errors import Unfit
-from botheven.lots import is_even
 from botheven.rounds import parted_even, tree_rounds
 from botheven.standings import difference
 from botheven.sums import odd_ties
@@ -47,10 +46,10 @@ def doublings(web, numbers):
 
 def by_rounds(web, one):
     """Return deeds of rounds that lead noughts to the standing."""
-    odd = odd_ties(one)
-    if not is_even(web, odd) or not _level(web, one):
+    if not _level(web, one):
         raise Unfit()
-    deeds = [("round", lot, 1) for lot in parted_even(web, odd)]
+    # Where a place has an odd sum, so that no rounds do, the odd ties are no even lot, and this raises Unfit, too.
+    deeds = [("round", lot, 1) for lot in parted_even(web, odd_ties(one))]
     # Rounds go along fellows together, so what is left is alike on them still.
     deeds.extend(doublings(web, missing(web, deeds, one)))
     return told_together(web, deeds)
