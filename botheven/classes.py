@@ -3,8 +3,8 @@
 from botheven.errors import Unfit
 from botheven.evens import lot_base, lot_many
 from botheven.kinds import whole_within
-from botheven.masks import lot_behind, mask_of, reduced
-from botheven.sums import sum_on
+from botheven.lotrests import first_of_rest, late_base, rest_number
+from botheven.sums import odd_ties, sum_on, with_ones
 from botheven.thick import need_thick
 
 
@@ -20,41 +20,24 @@ def parities(web, standing):
     return tuple([sum_on(standing, lot) & 1 for lot in lot_base(web)])
 
 
-def _late_base(web):
-    """Return the base of the both-even lots in which the greatest tie of each stands in no other one, ascending."""
-    # Turned about, the greatest ties lead the masks.
-    last = len(web[1]) - 1
-    turned = [tuple([last - tie for tie in lot[::-1]]) for lot in lot_base(web)]
-    found = [lot_behind(web, mask) for mask in reduced([mask_of(web, lot) for lot in turned])]
-    return tuple([tuple([last - tie for tie in lot[::-1]]) for lot in found[::-1]])
-
-
-def _with_ones(web, ties):
-    """Return the standing with 1 on these ties and 0 on all others."""
-    return tuple([int(tie in ties) for tie in range(len(web[1]))])
-
-
 def standard(web, standing):
     """Return the least standing of 0 and 1 that is joined with the standing."""
     need_thick(web)
-    # Any other tie can be made 0 by greater ones, so the least one has 1 at greatest ties alone.
-    return _with_ones(web, [lot[-1] for lot in _late_base(web) if sum_on(standing, lot) & 1])
+    base = late_base(web)
+    return with_ones(web, first_of_rest(base, rest_number(base, odd_ties(standing))))
 
 
 def class_at(web, number):
     """Return the least standing of 0 and 1 of the class with this number."""
     need_thick(web)
-    base = _late_base(web)
+    base = late_base(web)
     if not whole_within(number, 0, (1 << len(base)) - 1):
         raise Unfit()
-    last = len(base) - 1
-    return _with_ones(web, [lot[-1] for k, lot in enumerate(base) if number >> (last - k) & 1])
+    # The first lots of rests lie in the order of the numbers of these.
+    return with_ones(web, first_of_rest(base, number))
 
 
 def class_number(web, standing):
     """Return the number of the class of the standing."""
     need_thick(web)
-    number = 0
-    for lot in _late_base(web):
-        number = number * 2 + (sum_on(standing, lot) & 1)
-    return number
+    return rest_number(late_base(web), odd_ties(standing))

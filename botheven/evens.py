@@ -39,13 +39,17 @@ def _lot_from(base, number):
     return sum_of(tuple([lot for k, lot in enumerate(base) if number >> (last - k) & 1]))
 
 
-def all_lots(web):
-    """Return the tuple of all both-even lots, in order."""
-    base = lot_base(web)
+def all_from(base):
+    """Return the tuple of all sums of the base's lots, in order."""
     if 1 << len(base) > MAX_LOTS:
         raise TooMany(MAX_LOTS)
     # The leading ties of the base stand each in one lot of it, so rows lie in the order of numbers.
     return tuple([_lot_from(base, number) for number in range(1 << len(base))])
+
+
+def all_lots(web):
+    """Return the tuple of all both-even lots, in order."""
+    return all_from(lot_base(web))
 
 
 def lot_at(web, number):

@@ -2,7 +2,7 @@
 
 from botheven.evens import both_error, lot_base
 from botheven.kinds import row_of, whole_within
-from botheven.masks import reduced
+from botheven.masks import mask_of_figures, reduced
 from botheven.solving import less
 from botheven.trees import core_of
 
@@ -59,17 +59,9 @@ def _undoing(core):
     """Return the rows of 0 and 1 that undo the core modulo 2."""
     many = len(core)
     # Behind each row of the core stands what rows it is made of, itself alone at first.
-    masks = [_mask([number & 1 for number in row] + [int(k == place) for k in range(many)])
+    masks = [mask_of_figures([number & 1 for number in row] + [int(k == place) for k in range(many)])
              for place, row in enumerate(core)]
     return tuple([tuple([mask >> (many - 1 - k) & 1 for k in range(many)]) for mask in reduced(masks)])
-
-
-def _mask(figures):
-    """Return the integer with these figures."""
-    mask = 0
-    for figure in figures:
-        mask = mask * 2 + figure
-    return mask
 
 
 def odd_paper_holds(web, value):

@@ -4,16 +4,17 @@ from botheven.bounds import MAX_LAMPS
 from botheven.deeds import done
 from botheven.errors import Apart, TooMany
 from botheven.evens import lot_base
+from botheven.fewest import fewest_sums
 from botheven.lots import common_odd
 from botheven.masks import lot_behind, mask_of
 from botheven.rounds import rounds
-from botheven.sums import odd_ties
+from botheven.sums import odd_ties, with_ones
 from botheven.webs import ties_at
 
 
 def switched(web, lot, deeds):
     """Return the lot of the lamps that are on behind all deeds."""
-    return odd_ties(done(web, tuple([int(tie in lot) for tie in range(len(web[1]))]), deeds))
+    return odd_ties(done(web, with_ones(web, lot), deeds))
 
 
 def _switches(web):
@@ -26,17 +27,7 @@ def _fewest(web):
     """Return a dict: the mask of each lot that can be turned off, with the deeds of which it needs the fewest."""
     if len(web[1]) > MAX_LAMPS:
         raise TooMany(MAX_LAMPS)
-    switches = _switches(web)
-    found = {0: ()}
-    queue = [0]
-    # Lots that need fewer deeds come first, so each is met first with the fewest that it needs.
-    while queue:
-        mask = queue.pop(0)
-        for deed, ties in switches:
-            if mask ^ ties not in found:
-                found[mask ^ ties] = found[mask] + (deed,)
-                queue.append(mask ^ ties)
-    return found
+    return fewest_sums(_switches(web))
 
 
 def fewest_deeds(web, lot):

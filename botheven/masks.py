@@ -13,6 +13,14 @@ def mask_of(web, lot):
     return mask
 
 
+def mask_of_figures(figures):
+    """Return the integer with these figures, the highest one first."""
+    mask = 0
+    for figure in figures:
+        mask = mask * 2 + figure
+    return mask
+
+
 def lot_behind(web, mask):
     """Return the lot that has this mask."""
     last = len(web[1]) - 1

@@ -5,7 +5,7 @@ from botheven.evens import both_error
 from botheven.kinds import row_of
 from botheven.lots import is_cut, is_even, lot_error
 from botheven.splits import split
-from botheven.webs import web_error
+from botheven.webs import renamed, web_error
 
 
 def sort_paper(web, tie):
@@ -52,7 +52,7 @@ def pinched(web, tie):
     if web[1][tie] in ties:
         raise Unfit()
     names = [_name(place, web[1][tie]) for place in range(web[0])]
-    return web[0] - 1, tuple([tuple(sorted((names[one], names[other]))) for one, other in ties])
+    return web[0] - 1, renamed(ties, names)
 
 
 def _name(place, ends):

@@ -19,3 +19,8 @@ def sum_with(numbers, slope):
 def odd_ties(numbers):
     """Return the lot of the ties with odd numbers."""
     return tuple([tie for tie, number in enumerate(numbers) if number & 1])
+
+
+def with_ones(web, lot):
+    """Return the standing with 1 on the lot's ties and 0 on all others."""
+    return tuple([int(tie in lot) for tie in range(len(web[1]))])

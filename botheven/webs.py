@@ -33,6 +33,11 @@ def ties_at(web, place):
     return tuple([tie for tie, ends in enumerate(web[1]) if place in ends])
 
 
+def renamed(ties, names):
+    """Return the ties with the names of their ends, the lesser one first."""
+    return tuple([tuple(sorted((names[one], names[other]))) for one, other in ties])
+
+
 def matrix_of(web):
     """Return the web's matrix: ties at each place, less ties between each two."""
     many, ties = web

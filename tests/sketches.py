@@ -1,6 +1,9 @@
-"""Flat drawings to test with, and slow answers about faces and turn walks that follow the document's words."""
+"""Drawings to test with, and slow answers about faces and turn walks that follow the document's words."""
 
+import itertools
 import random
+
+from tests.oracles import BOW, CROWDED, DOUBLED, FULL, KITE, TAIL, TRIO, WIDE, grown_web, random_web
 
 
 def behind(drawing, place, tie):
@@ -144,3 +147,34 @@ def some_drawings():
             found.append(grown_drawing(rng, places, count))
     found += [grown_drawing(rng, 12, 40) for _ in range(3)] + [grown_drawing(rng, 3, 12) for _ in range(5)]
     return found + [turned_about(one) for one in found[-10:]]
+
+
+def random_table(rng, web):
+    """Return a table of the web with any turns."""
+    turns = []
+    for place in range(web[0]):
+        ties = [tie for tie in range(len(web[1])) if place in web[1][tie]]
+        rng.shuffle(ties)
+        turns.append(tuple(ties))
+    return (web, tuple(turns))
+
+
+def small_tables():
+    """Return tables of small webs with all turns, as long as they are few."""
+    found = []
+    for web in ((2, ((0, 1),)), (2, ((0, 1),) * 2), (2, ((0, 1),) * 3), (3, ((0, 1), (0, 2), (1, 2))), (2, ((0, 1),) * 4),
+                (3, ((0, 1), (0, 1), (1, 2))), (3, ((0, 1), (0, 1), (1, 2), (1, 2))), KITE, FULL):
+        rows = [itertools.permutations([tie for tie in range(len(web[1])) if place in web[1][tie]]) for place in range(web[0])]
+        tables = [(web, turns) for turns in itertools.product(*rows)]
+        found += tables[::1 + len(tables) // 60]
+    return found
+
+
+def bent_tables():
+    """Return tables of all sorts of webs with any turns, most of them not flat."""
+    rng = random.Random(341)
+    found = [random_table(rng, web) for web in (TAIL, BOW, TRIO, CROWDED, DOUBLED, WIDE) for _ in range(2)]
+    for places in range(2, 13):
+        for count in (places - 1, places, places + 2, 2 * places, 3 * places):
+            found.append(random_table(rng, random_web(rng, places, count)))
+    return found + [random_table(rng, grown_web(rng, 8)) for _ in range(20)]

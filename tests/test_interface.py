@@ -67,11 +67,35 @@ FUNCTIONS = {
         "parts_modulo": "web k standing other value",
     },
     "lamps": {"switched": "web lot deeds", "fewest_deeds": "web lot", "hardest": "web"},
+    "families": {
+        "ring": "n", "wheel": "n", "grid": "m n", "ladder": "n", "full": "n", "full_two": "m n",
+        "lot_many_of": "word sizes",
+    },
+    "together": {
+        "at_place": "web place other further", "by_tie": "web place other further", "many_fold": "web m",
+        "cut_small": "web m",
+    },
+    "gaps": {"fewest_left": "web lot", "widest": "web", "mended": "web standing other"},
+    "sizes": {"lots_by_size": "web", "least_lot": "web"},
+    "surfaces": {"all_faces": "table", "all_walks": "table", "holes": "table"},
     "trees": {"tree_count": "web", "trees": "web", "is_tree": "web value"},
     "factors": {
         "heap_factors": "web", "evens_among": "web", "odd_paper": "web", "odd_paper_holds": "web value",
     },
 }
+
+CLASSES = {
+    "benches": {
+        "Bench": {
+            "add": "name web standing", "drop": "name", "tie": "name one other number", "untie": "name place",
+            "pinch": "name place", "stand": "name standing", "do": "name deeds", "batch": "edits", "base": "name",
+            "undo": "", "redo": "", "at": "version", "copy": "", "attempt": "work", "search": "web standing",
+        },
+    },
+    "shells": {"Shell": {"say": "line"}},
+}
+
+PROPERTIES = ("shelf", "version", "log", "made")
 
 
 class Interface(unittest.TestCase):
@@ -117,9 +141,33 @@ class Interface(unittest.TestCase):
                 self.assertEqual(function.__name__, name)
                 told = inspect.signature(function).parameters
                 self.assertEqual(list(told), words.split(), name)
-                for parameter in told.values():
-                    self.assertEqual(parameter.kind, inspect.Parameter.POSITIONAL_OR_KEYWORD)
-                    self.assertIs(parameter.default, inspect.Parameter.empty)
+                self.check_plain(told)
+
+    def check_plain(self, told):
+        for parameter in told.values():
+            self.assertEqual(parameter.kind, inspect.Parameter.POSITIONAL_OR_KEYWORD)
+            self.assertIs(parameter.default, inspect.Parameter.empty)
+
+    def test_classes_define_what_is_listed_for_them(self):
+        for module, rows in CLASSES.items():
+            found = importlib.import_module("botheven." + module)
+            for name, methods in rows.items():
+                kind = getattr(found, name)
+                self.assertEqual((kind.__module__, kind.__bases__), ("botheven." + module, (object,)))
+                kind()
+                for method, words in methods.items():
+                    told = inspect.signature(vars(kind)[method]).parameters
+                    self.assertEqual(list(told), ["self"] + words.split(), method)
+                    self.check_plain(told)
+
+    def test_a_bench_has_its_properties_from_the_beginning(self):
+        bench = importlib.import_module("botheven.benches").Bench
+        for name in PROPERTIES:
+            self.assertIsInstance(vars(bench)[name], property)
+            self.assertIsNone(vars(bench)[name].fset)
+            getattr(bench(), name)
+        for name in ("__len__", "__getitem__", "__iter__", "__eq__"):
+            self.assertIn(name, vars(bench))
 
 
 if __name__ == "__main__":

@@ -13,25 +13,38 @@ STATEMENTS = (
     ast.Assign, ast.AugAssign, ast.If, ast.While, ast.For, ast.Return, ast.Break, ast.Continue, ast.Pass, ast.Raise,
     ast.Try, ast.Expr, ast.FunctionDef, ast.ClassDef, ast.ImportFrom,
 )
-NEVER = (ast.GeneratorExp, ast.Set, ast.SetComp, ast.Lambda, ast.Div, ast.Starred, ast.NamedExpr, ast.Yield, ast.Await)
+NEVER = (ast.GeneratorExp, ast.Set, ast.SetComp, ast.Lambda, ast.Div, ast.NamedExpr, ast.Yield, ast.Await)
 BUILTINS = (
     "len", "range", "enumerate", "zip", "min", "max", "sum", "abs", "sorted", "reversed", "int", "str", "bool", "list",
-    "tuple", "dict", "isinstance", "any", "all", "divmod", "ValueError",
+    "tuple", "dict", "isinstance", "any", "all", "divmod", "ValueError", "iter", "type",
 )
 METHODS = (
     "append", "bit_length", "count", "endswith", "extend", "find", "get", "index", "insert", "isdigit", "items", "join",
-    "keys", "partition", "pop", "remove", "replace", "setdefault", "split", "startswith", "strip", "values",
+    "keys", "partition", "pop", "remove", "removeprefix", "replace", "setdefault", "split", "startswith", "strip",
+    "values",
 )
+LIBRARY = {"math": ("gcd",)}
 ITERATORS = ("range", "enumerate", "zip", "reversed")
 ITERATING = ("list", "tuple", "dict", "sorted", "sum", "any", "all", "enumerate", "zip", "min", "max", "len")
 WORDS = (
     "type", "typing", "enum", "Enum", "Flag", "Generic", "Protocol", "ABC", "namedtuple", "dataclass", "abstractmethod",
     "register", "mro", "elements", "open", "input", "law", "getattr", "setattr", "hasattr", "super", "global", "sys",
+    "_lay", "_cold", "_record", "_outside", "_tuplegetter", "_written_out", "_member_names",
 )
 
 
 def files():
     return sorted(name for name in os.listdir(PACKAGE) if name != "__pycache__")
+
+
+def methods_of(tree):
+    """Return the functions that stand in the classes of a file."""
+    kinds = [node for node in tree.body if isinstance(node, ast.ClassDef)]
+    return [node for kind in kinds for node in kind.body if isinstance(node, ast.FunctionDef)]
+
+
+def is_property(node):
+    return [ast.unparse(one) for one in node.decorator_list] == ["property"]
 
 
 def text_of(name):
@@ -75,7 +88,7 @@ class Language(unittest.TestCase):
                 if isinstance(node, ast.FunctionDef):
                     self.assertLessEqual(node.end_lineno - node.lineno + 1, 40, node.name)
                     self.assertIsNotNone(ast.get_docstring(node) or node.name == "__init__" or None, node.name)
-                    self.assertEqual(node.decorator_list, [])
+                    self.assertTrue(node.decorator_list == [] or is_property(node) and node in methods_of(tree), node.name)
 
     def test_imports(self):
         uses = {}
@@ -85,6 +98,9 @@ class Language(unittest.TestCase):
                 self.assertNotIsInstance(node, ast.Import)
                 if isinstance(node, ast.ImportFrom):
                     self.assertIn(node, tree.body)
+                    if node.module in LIBRARY:
+                        self.assertTrue(all(one.name in LIBRARY[node.module] and not one.asname for one in node.names))
+                        continue
                     self.assertRegex(node.module, r"^botheven\.[a-z]+$")
                     uses[name].append(node.module[9:] + ".py")
                     there = ast.parse(text_of(node.module[9:] + ".py"))
@@ -107,6 +123,8 @@ class Language(unittest.TestCase):
                 self.assertNotIsInstance(node, NEVER)
                 if isinstance(node, ast.stmt):
                     self.assertIsInstance(node, STATEMENTS)
+                if isinstance(node, ast.Starred):
+                    self.assertIsInstance(node.value, ast.Name)
                 if isinstance(node, ast.Constant):
                     self.assertNotIsInstance(node.value, (float, complex, bytes))
                     if isinstance(node.value, str):
@@ -128,9 +146,9 @@ class Language(unittest.TestCase):
             self.assertEqual(len(tops), len(set(tops)))
             for bound in bound_names(tree):
                 self.assertNotIn(bound, imported)
-                self.assertFalse(bound != "__init__" and hasattr(builtins, bound), bound)
+                self.assertFalse(not bound.startswith("__") and hasattr(builtins, bound), bound)
                 self.assertNotIn(bound, WORDS)
-                self.assertRegex(bound, r"^(_?[A-Za-z][A-Za-z0-9_]*|__init__|_)$")
+                self.assertRegex(bound, r"^(_?[A-Za-z][A-Za-z0-9_]*|__[a-z]+__|_)$")
             for node in ast.walk(tree):
                 if isinstance(node, ast.Name) and isinstance(node.ctx, ast.Load):
                     self.assertNotEqual(node.id, "_")
@@ -138,9 +156,14 @@ class Language(unittest.TestCase):
                     self.assertNotIn(getattr(node, "arg", None) or getattr(node, "id", None), classes)
 
     def test_calls(self):
+        methods = list(METHODS) + [node.name for _, _, tree in self.each_file() for node in methods_of(tree)]
         for _, _, tree in self.each_file():
             own = [node.name for node in tree.body if isinstance(node, (ast.FunctionDef, ast.ClassDef))]
             own += [one.name for node in tree.body if isinstance(node, ast.ImportFrom) for one in node.names]
+            # Functions may be passed on, and those out of a table have a name of their own ahead of the call.
+            own += [node.arg for node in ast.walk(tree) if isinstance(node, ast.arg)]
+            own += [node.targets[0].id for node in ast.walk(tree)
+                    if isinstance(node, ast.Assign) and re.match(r"\w+ = _[A-Z]+\[", ast.unparse(node))]
             raised = [node.exc for node in ast.walk(tree) if isinstance(node, ast.Raise) and node.exc]
             self.assertTrue(all(isinstance(one, ast.Call) and isinstance(one.func, ast.Name) for one in raised))
             for node in ast.walk(tree):
@@ -149,7 +172,46 @@ class Language(unittest.TestCase):
                 if isinstance(node.func, ast.Name):
                     self.assertIn(node.func.id, list(BUILTINS) + own)
                 elif not (isinstance(node.func.value, ast.Name) and node.func.attr == "__init__"):
-                    self.assertIn(node.func.attr, METHODS)
+                    self.assertIn(node.func.attr, methods)
+
+    def test_what_classes_have(self):
+        allowed = ("__init__", "__len__", "__getitem__", "__iter__", "__eq__")
+        names = [node.name for _, _, tree in self.each_file() for node in methods_of(tree)]
+        attributes = {node.attr for _, _, tree in self.each_file() for node in ast.walk(tree)
+                      if isinstance(node, ast.Attribute) and isinstance(node.ctx, ast.Store)}
+        for _, text, tree in self.each_file():
+            for node in methods_of(tree):
+                if node.name.startswith("__"):
+                    self.assertIn(node.name, allowed)
+                if node.name.startswith("__") and node.name != "__init__" or is_property(node):
+                    self.check_changes_nothing(node)
+                if is_property(node):
+                    self.assertEqual(names.count(node.name), 1)
+                if not node.name.startswith("__"):
+                    self.assertNotIn(node.name, attributes)
+                if node.name == "__iter__":
+                    self.assertRegex(ast.unparse(node.body[-1]), r"^return iter\(self\.[a-z_]+\)$")
+                    self.assertEqual(len(node.body), 2)
+                if node.name == "__eq__":
+                    self.assertRegex(ast.unparse(node.body[-1]), r"^return isinstance\(other, [A-Z][a-z]+\) and ")
+            if "type(" in text:
+                self.assertEqual(re.findall(r"\btype\(.*", text), ["type(error).__name__"])
+
+    def check_changes_nothing(self, function):
+        """Check that a function assigns no attribute and no item, and deletes nothing."""
+        for node in ast.walk(function):
+            if isinstance(node, (ast.Attribute, ast.Subscript)):
+                self.assertIsInstance(node.ctx, ast.Load)
+            self.assertNotIsInstance(node, (ast.AugAssign, ast.Delete))
+
+    def test_sets_and_errors_beside_a_class_that_compares(self):
+        for _, _, tree in self.each_file():
+            for node in ast.walk(tree):
+                if isinstance(node, ast.ExceptHandler):
+                    self.assertNotIn(ast.unparse(node.type), ("ValueError", "IndexError", "LookupError", "Exception"))
+                if isinstance(node, ast.Call):
+                    self.assertNotIn(ast.unparse(node.func), ("set", "frozenset", "sort", "map", "next"))
+                    self.assertFalse(ast.unparse(node.func).endswith(".sort"))
 
     def test_ranges_are_iterated_on_the_spot(self):
         for _, _, tree in self.each_file():

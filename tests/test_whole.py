@@ -1,9 +1,10 @@
-"""[A2] (a) to (f): what holds of all parts together, in small webs."""
+"""[A2] (a) to (g): what holds of all parts together, in small webs."""
 
 import itertools
 import random
 import unittest
 
+from botheven.benches import Bench
 from botheven.classes import class_count, class_number
 from botheven.deeds import done, lifted, never_below
 from botheven.drawings import drawing_error
@@ -20,6 +21,7 @@ from botheven.turnwalks import turn_walks
 from tests.oracles import all_cuts, all_lots_of, all_rounds_of, bent_webs, both_even_lots, dot, even_lots, in_lattice
 from tests.oracles import lattice, less_by, random_standing, row, some_webs, stars_of, thick_webs
 from tests.sketches import some_drawings
+from tests.slowbench import some_edit
 
 
 def small_webs():
@@ -119,6 +121,22 @@ class Whole(unittest.TestCase):
                     deeds = lifted(web, one, led_by(web, one, goal))
                     self.assertEqual((done(web, one, deeds), never_below(web, one, deeds)), (goal, True))
         self.assertGreater(many, 100)
+
+    def test_g_edits_that_are_taken_back(self):
+        rng = random.Random(263)
+        for _ in range(30):
+            bench, seen = Bench(), [((), 0, ())]
+            for _ in range(40):
+                edit = some_edit(rng, {name: bench[name] for name in bench})
+                try:
+                    getattr(bench, edit[0])(*edit[1:])
+                    seen.append((bench.shelf, bench.version, bench.log))
+                except BothError:
+                    pass
+                self.assertEqual((bench.shelf, bench.version, bench.log), seen[-1])
+            for there in seen[-2::-1]:
+                bench.undo()
+                self.assertEqual((bench.shelf, bench.version, bench.log), there)
 
     def test_all_standings_of_thick_webs_with_odd_trees_are_joined(self):
         for web in ((2, ((0, 1),) * 3), (2, ((0, 1),) * 5)):
