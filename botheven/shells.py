@@ -127,7 +127,8 @@ _ANSWERS = {
 def _answer(bench, parts):
     """Return the answer to a line's word and the values behind it."""
     if parts[0] not in _ANSWERS:
-        return f"version {bench.edit(_edit(*parts))}"
+        version = bench.edit(_edit(*parts))
+        return f"version {version}"
     answer = _ANSWERS[parts[0]]
     values = parts[1:]
     return answer(bench, *values)

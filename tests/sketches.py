@@ -162,10 +162,11 @@ def random_table(rng, web):
 def small_tables():
     """Return tables of small webs with all turns, as long as they are few."""
     found = []
-    for web in ((2, ((0, 1),)), (2, ((0, 1),) * 2), (2, ((0, 1),) * 3), (3, ((0, 1), (0, 2), (1, 2))), (2, ((0, 1),) * 4),
+    for web in ((2, ((0, 1),)), (2, ((0, 1),) * 2), (2, ((0, 1),) * 3), (3, ((0, 1), (0, 2), (1, 2))),
+                (2, ((0, 1),) * 4),
                 (3, ((0, 1), (0, 1), (1, 2))), (3, ((0, 1), (0, 1), (1, 2), (1, 2))), KITE, FULL):
-        rows = [itertools.permutations([tie for tie in range(len(web[1])) if place in web[1][tie]]) for place in range(web[0])]
-        tables = [(web, turns) for turns in itertools.product(*rows)]
+        around = [[tie for tie in range(len(web[1])) if place in web[1][tie]] for place in range(web[0])]
+        tables = [(web, turns) for turns in itertools.product(*[itertools.permutations(ties) for ties in around])]
         found += tables[::1 + len(tables) // 60]
     return found
 
@@ -178,3 +179,10 @@ def bent_tables():
         for count in (places - 1, places, places + 2, 2 * places, 3 * places):
             found.append(random_table(rng, random_web(rng, places, count)))
     return found + [random_table(rng, grown_web(rng, 8)) for _ in range(20)]
+
+
+def doubled_drawing(many):
+    """Return the drawing of so many places in a row, with two ties between neighbours."""
+    web = (many, tuple((k, k + 1) for k in range(many - 1) for _ in range(2)))
+    inner = tuple((2 * k - 2, 2 * k, 2 * k + 1, 2 * k - 1) for k in range(1, many - 1))
+    return (web, ((0, 1),) + inner + ((2 * many - 4, 2 * many - 3),))

@@ -26,7 +26,8 @@ FAR = 10 ** 12
 def any_values():
     """Return values of all kinds, benches and errors that hold such among them."""
     full = some_bench()
-    return ODD_VALUES + (Bench(), full, (full,), [full], {"a": full}, full.shelf, full.log, NoName(full), (Bench(), 0, 1))
+    return ODD_VALUES + (Bench(), full, (full,), [full], {"a": full}, full.shelf, full.log, NoName(full),
+                         (Bench(), 0, 1))
 
 
 def some_bench():
@@ -224,7 +225,8 @@ class Edits(unittest.TestCase):
 
     def test_add_errors_in_their_order(self):
         b = some_bench()
-        for name in [value for value in any_values() if value != "star"] + ["abcdefghi", "a1", "a_b", "A", "a ", "\n", "-"]:
+        for name in [value for value in any_values() if value != "star"] + ["abcdefghi", "a1", "a_b", "A", "a ", "\n",
+                                                                            "-"]:
             self.refuse(b, Unfit, b.add, name, FAT, (0,) * 4)
             self.refuse(b, Unfit, b.add, name, None, 7)
         for web in any_values():
@@ -412,7 +414,8 @@ class Batches(unittest.TestCase):
         before = state(b)
         good = ("do", "tri", ())
         bad = [("add", "X", ALONE, ()), ("add", "x", None, ()), ("add", "x", ALONE, 0), ("add", "tri", ALONE, ()),
-               ("drop", "x"), ("drop", Bench()), ("tie", "tri", 1, 1, 0), ("tie", "tri", 0, 1, None), ("untie", "tri", 3),
+               ("drop", "x"), ("drop", Bench()), ("tie", "tri", 1, 1, 0), ("tie", "tri", 0, 1, None),
+               ("untie", "tri", 3),
                ("pinch", "tri", None), ("stand", "tri", ()), ("do", "tri", []), ("do", "tri", (("star", 0, FAR),)),
                ("do", {}, ())]
         for part in bad:
@@ -545,10 +548,12 @@ class Back(unittest.TestCase):
             b, slow = random_benches(rng, 30)
             shelves, log = [b.at(version) for version in range(b.version + 1)], b.log
             for version in range(b.version - 1, -1, -1):
-                self.assertEqual((b.undo(), b.version, b.shelf, b.log), (version, version, shelves[version], log[:version]))
+                self.assertEqual((b.undo(), b.version, b.shelf, b.log),
+                                 (version, version, shelves[version], log[:version]))
             caught(self, NothingToUndo, b.undo)
             for version in range(1, len(shelves)):
-                self.assertEqual((b.redo(), b.version, b.shelf, b.log), (version, version, shelves[version], log[:version]))
+                self.assertEqual((b.redo(), b.version, b.shelf, b.log),
+                                 (version, version, shelves[version], log[:version]))
             for _ in range(len(slow.taken)):
                 b.redo()
             caught(self, NothingToRedo, b.redo)
@@ -745,7 +750,8 @@ class Random(unittest.TestCase):
                 version = rng.randint(-1, b.version + 1)
                 self.assertEqual(outcome(b.at, version), outcome(slow.at, version))
         self.assertEqual(words, {(word, bad) for word in COUNTS for bad in (True, False)})
-        self.assertTrue({"Unfit", "BadWeb", "BadStanding", "NoTie", "NoName", "Taken", "TooMany", "BadBatch", "Rejected",
+        self.assertTrue({"Unfit", "BadWeb", "BadStanding", "NoTie", "NoName", "Taken", "TooMany", "BadBatch",
+                         "Rejected",
                          "TooManyEdits"} <= raised)
 
     def test_attempts_at_random(self):

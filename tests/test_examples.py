@@ -9,7 +9,7 @@ FOLDER = os.path.join(os.path.dirname(os.path.abspath(__file__)), "examples")
 PARTS = (
     "webs_lots_rounds.txt", "standings_deeds.txt", "ways_thick.txt", "joined.txt", "any_web.txt", "both_even_lots.txt",
     "trees_factors.txt", "sorts.txt", "drawings.txt", "rests_lamps.txt", "families_together.txt", "benches_shells.txt",
-    "gaps_sizes.txt", "surfaces.txt",
+    "gaps_sizes.txt", "surfaces.txt", "sides.txt", "boxes.txt", "poles.txt", "namings_orbits.txt", "logs.txt",
 )
 
 

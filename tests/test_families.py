@@ -74,7 +74,8 @@ class Tie_by_tie(unittest.TestCase):
 
 class Sizes(unittest.TestCase):
     def test_one_beyond(self):
-        for call, sizes in ((ring, (0, 1, 13)), (wheel, (1, 2, 12)), (ladder, (0, 7)), (full, (0, 10)), (full, (-1, 12))):
+        for call, sizes in ((ring, (0, 1, 13)), (wheel, (1, 2, 12)), (ladder, (0, 7)), (full, (0, 10)),
+                            (full, (-1, 12))):
             for n in sizes:
                 caught(self, Unfit, call, n)
         for call, most in ((grid, lambda m, n: m * n <= 12), (full_two, lambda m, n: m + n <= 12)):
@@ -100,7 +101,8 @@ class Sizes(unittest.TestCase):
                 caught(self, Unfit, call, n=2, m=value)
 
     def test_bools_are_none(self):
-        for call, args in ((full, (True,)), (ladder, (True,)), (grid, (True, 2)), (grid, (2, True)), (full_two, (True, 1))):
+        for call, args in ((full, (True,)), (ladder, (True,)), (grid, (True, 2)), (grid, (2, True)),
+                           (full_two, (True, 1))):
             caught(self, Unfit, call, *args)
 
     def test_calls(self):

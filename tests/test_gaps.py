@@ -77,7 +77,8 @@ class Fewest(unittest.TestCase):
         self.assertEqual(len(fewest_left(NARROW, tuple(range(10)))), 10)
         self.assertEqual(fewest_left(NARROW, tuple(range(20))), ())
         self.assertEqual(lots_by_size(TENFOLD)[:3], ((0, 1), (2, 10), (4, 45)))
-        for call, args in ((fewest_left, ((),)), (widest, ()), (lots_by_size, ()), (least_lot, ()), (fewest_left, ((0, 5),))):
+        for call, args in ((fewest_left, ((),)), (widest, ()), (lots_by_size, ()), (least_lot, ()),
+                           (fewest_left, ((0, 5),))):
             self.assertEqual(caught(self, TooMany, call, DOUBLED, *args).limit, 10)
 
     def test_told_soon_for_great_webs(self):
@@ -168,7 +169,8 @@ class Mended(unittest.TestCase):
     def test_calls(self):
         for web in (FULL, TRIPLE, ALONE, KITE):
             many = len(web[1])
-            check_call(self, mended, {"web": web, "standing": (0,) * many, "other": (1,) + (0,) * (many - 1) if many else ()})
+            check_call(self, mended, {"web": web, "standing": (0,) * many,
+                                      "other": (1,) + (0,) * (many - 1) if many else ()})
 
 
 class Sizes(unittest.TestCase):
@@ -201,7 +203,8 @@ class Sizes(unittest.TestCase):
     def test_some(self):
         self.assertEqual((lots_by_size(ALONE), least_lot(ALONE)), (((0, 1),), None))
         self.assertEqual((lots_by_size(ROW), least_lot(ROW)), (((0, 1),), None))
-        self.assertEqual((lots_by_size((2, ((0, 1),) * 40)), least_lot((2, ((0, 1),) * 40))), (((0, 1), (40, 1)), tuple(range(40))))
+        self.assertEqual((lots_by_size((2, ((0, 1),) * 40)), least_lot((2, ((0, 1),) * 40))),
+                         (((0, 1), (40, 1)), tuple(range(40))))
 
 
 class What_holds(unittest.TestCase):

@@ -78,6 +78,25 @@ FUNCTIONS = {
     "gaps": {"fewest_left": "web lot", "widest": "web", "mended": "web standing other"},
     "sizes": {"lots_by_size": "web", "least_lot": "web"},
     "surfaces": {"all_faces": "table", "all_walks": "table", "holes": "table"},
+    "sides": {
+        "face_lot": "table some", "walk_lot": "table some", "is_side": "table value", "side_lots": "table",
+        "side_many": "table", "side_colours": "table lot",
+    },
+    "boxes": {
+        "box_parts": "web top", "frozen": "web top", "box_part": "web top standing",
+        "box_way": "web top standing other", "least_top": "web standing other",
+    },
+    "poles": {"pole_type": "web one other", "in_row": "first second", "side_by_side": "first second"},
+    "poleterms": {
+        "term_error": "value", "term_type": "term", "term_size": "term", "term_lots": "term", "term_web": "term",
+        "term_text": "term", "read_term": "value",
+    },
+    "namings": {
+        "naming_error": "many value", "carried": "web names", "alike": "web other", "symmetries": "web",
+        "tie_moves": "web names", "moved": "web names standing",
+    },
+    "orbits": {"lot_orbits": "web", "class_orbits": "web"},
+    "logs": {"log_text": "edits", "read_log": "value", "bench_behind": "edits"},
     "trees": {"tree_count": "web", "trees": "web", "is_tree": "web value"},
     "factors": {
         "heap_factors": "web", "evens_among": "web", "odd_paper": "web", "odd_paper_holds": "web value",

@@ -88,7 +88,8 @@ class Language(unittest.TestCase):
                 if isinstance(node, ast.FunctionDef):
                     self.assertLessEqual(node.end_lineno - node.lineno + 1, 40, node.name)
                     self.assertIsNotNone(ast.get_docstring(node) or node.name == "__init__" or None, node.name)
-                    self.assertTrue(node.decorator_list == [] or is_property(node) and node in methods_of(tree), node.name)
+                    self.assertTrue(node.decorator_list == [] or is_property(node) and node in methods_of(tree),
+                                    node.name)
 
     def test_imports(self):
         uses = {}
@@ -194,8 +195,8 @@ class Language(unittest.TestCase):
                     self.assertEqual(len(node.body), 2)
                 if node.name == "__eq__":
                     self.assertRegex(ast.unparse(node.body[-1]), r"^return isinstance\(other, [A-Z][a-z]+\) and ")
-            if "type(" in text:
-                self.assertEqual(re.findall(r"\btype\(.*", text), ["type(error).__name__"])
+            for call in re.findall(r"\btype\(.*", text):
+                self.assertEqual(call, "type(error).__name__")
 
     def check_changes_nothing(self, function):
         """Check that a function assigns no attribute and no item, and deletes nothing."""

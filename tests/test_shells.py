@@ -13,10 +13,13 @@ from tests.oracles import FULL, KITE, ODD_VALUES, SQUARE, TRIANGLE, nested
 FOUR = "2: 0-1 0-1 0-1 0-1"
 # What is no INT: noughts ahead, a nought below 0, seven figures, other figures, signs and blanks.
 NO_INTS = (
-    "", "-", "--1", "+1", "01", "00", "-0", "-01", "1000000", "-1000000", "0000001", "9" * 5000, "-" + "9" * 5000, "0" * 5000,
-    "1.0", "1e3", "1_0", "0x1", "one", "None", "True", "\u00b2", "\u0661", "\uff11", "1\n", "\n1", "\t1", "1-", "(1)", "1;2",
+    "", "-", "--1", "+1", "01", "00", "-0", "-01", "1000000", "-1000000", "0000001", "9" * 5000, "-" + "9" * 5000,
+    "0" * 5000,
+    "1.0", "1e3", "1_0", "0x1", "one", "None", "True", "\u00b2", "\u0661", "\uff11", "1\n", "\n1", "\t1", "1-", "(1)",
+    "1;2",
 )
-NO_INTSS = NO_INTS + ("none,1", "1,none", "1,,2", ",1", "1,", ",", "None", "NONE", "none,", "1, 2", "1;2", "01,2", "1,-0")
+NO_INTSS = NO_INTS + ("none,1", "1,none", "1,,2", ",1", "1,", ",", "None", "NONE", "none,", "1, 2", "1;2", "01,2",
+                      "1,-0")
 
 
 def some_shell():
@@ -54,8 +57,10 @@ class Lines(unittest.TestCase):
         self.check((
             ("add a none ", "error BadText"), ("add a none 1", "error BadText"), ("add a none 1: ", "error BadText"),
             ("add a none  1:", "error BadText"), ("add A none 2:", "error BadText"), ("add a 1 1:\n", "error BadText"),
-            ("add A none 1:", "error Unfit"), ("add abcdefghi none 1:", "error Unfit"), ("add a\n none 1:", "error Unfit"),
-            ("add a,b 7 1:", "error Unfit"), ("add a 0 1:", "error BadStanding"), ("add a none 2: 0-1", "error BadStanding"),
+            ("add A none 1:", "error Unfit"), ("add abcdefghi none 1:", "error Unfit"),
+            ("add a\n none 1:", "error Unfit"),
+            ("add a,b 7 1:", "error Unfit"), ("add a 0 1:", "error BadStanding"),
+            ("add a none 2: 0-1", "error BadStanding"),
             ("add a none 1:", "version 1"), ("add a none 1:", "error Taken"), ("add a 0 1:", "error BadStanding"),
         ) + tuple((f"add {name} none 1:", f"version {k + 2}") for k, name in enumerate("bcdef")) + (
             ("add g none 1:", "error TooMany"), ("add a none 1:", "error Taken"), ("names", "a b c d e f"),
@@ -64,9 +69,11 @@ class Lines(unittest.TestCase):
     def test_edits(self):
         self.check((
             ("add tri 0,0,0 3: 0-1 0-2 1-2", "version 1"), ("tie tri 0 1 5", "version 2"),
-            ("show tri", "0,0,0,5 3: 0-1 0-2 1-2 0-1"), ("tie tri 1 0 5", "error BadWeb"), ("tie tri 0 3 5", "error BadWeb"),
+            ("show tri", "0,0,0,5 3: 0-1 0-2 1-2 0-1"), ("tie tri 1 0 5", "error BadWeb"),
+            ("tie tri 0 3 5", "error BadWeb"),
             ("tie tri -1 0 5", "error BadWeb"), ("untie tri 4", "error NoTie"), ("untie tri -1", "error NoTie"),
-            ("stand tri 1,2,3,4", "version 3"), ("stand tri 1,2,3", "error BadStanding"), ("stand tri none", "error BadStanding"),
+            ("stand tri 1,2,3,4", "version 3"), ("stand tri 1,2,3", "error BadStanding"),
+            ("stand tri none", "error BadStanding"),
             ("untie tri 0", "version 4"), ("show tri", "2,3,4 3: 0-2 1-2 0-1"), ("pinch tri 0", "version 5"),
             ("show tri", "3,4 2: 0-1 0-1"), ("pinch tri 0", "error Unfit"), ("pinch tri 2", "error NoTie"),
             ("untie tri 1", "version 6"), ("untie tri 0", "error BadWeb"), ("pinch tri 0", "version 7"),
@@ -75,10 +82,12 @@ class Lines(unittest.TestCase):
 
     def test_deeds(self):
         self.check((
-            ("add four 1,0,0,0 " + FOUR, "version 1"), ("star four 1 -1", "version 2"), ("round four 0,3 2", "version 3"),
+            ("add four 1,0,0,0 " + FOUR, "version 1"), ("star four 1 -1", "version 2"),
+            ("round four 0,3 2", "version 3"),
             ("show four", "2,-1,-1,1 " + FOUR), ("star four 2 1", "error Unfit"), ("star four -1 1", "error Unfit"),
             ("star four 0 0", "error Unfit"), ("round four 0,0 1", "error Unfit"), ("round four 3,0 1", "error Unfit"),
-            ("round four none 1", "error Unfit"), ("round four 0,1,2 1", "error Unfit"), ("round four 0,4 1", "error Unfit"),
+            ("round four none 1", "error Unfit"), ("round four 0,1,2 1", "error Unfit"),
+            ("round four 0,4 1", "error Unfit"),
             ("round four 1,2 -999999", "version 4"), ("show four", "2,-1000000,-1000000,1 " + FOUR),
             ("star three 0 1", "error NoName"), ("round three 0,1 1", "error NoName"),
         ))
@@ -97,12 +106,14 @@ class Lines(unittest.TestCase):
             self.assertEqual(s.say("star four 0 1"), f"version {version}")
         self.assertEqual([s.say("star four 0 1"), s.say("drop x"), s.say("drop one")],
                          ["error TooManyEdits", "error NoName", "error TooManyEdits"])
-        self.assertEqual([s.say("undo"), s.say("drop one"), s.say("redo")], ["version 39", "version 40", "error NothingToRedo"])
+        self.assertEqual([s.say("undo"), s.say("drop one"), s.say("redo")],
+                         ["version 39", "version 40", "error NothingToRedo"])
 
     def test_find(self):
         self.check((
             ("find none 1:", "none"), ("add b 1,0,0,0 " + FOUR, "version 1"), ("add a 0,0,0,1 " + FOUR, "version 2"),
-            ("find 0,7,0,0 " + FOUR, "a b"), ("find 0,0,0,0 " + FOUR, "none"), ("find 0,0 " + FOUR, "error BadStanding"),
+            ("find 0,7,0,0 " + FOUR, "a b"), ("find 0,0,0,0 " + FOUR, "none"),
+            ("find 0,0 " + FOUR, "error BadStanding"),
             ("find none ", "error BadText"), ("find 0 2:", "error BadText"), ("find none 2: 0-1", "error BadStanding"),
             ("add c none 1:", "version 3"), ("find none 1:", "c"), ("find 0,0 2: 0-1 0-1", "none"), ("made", "0"),
         ))
@@ -110,9 +121,11 @@ class Lines(unittest.TestCase):
     def test_base_and_made(self):
         self.check((
             ("made", "0"), ("base x", "error NoName"), ("add four 0,0,0,0 " + FOUR, "version 1"),
-            ("add full 0,0,0,0,0,0 " + web_text(FULL), "version 2"), ("add tri 0,0,0 " + web_text(TRIANGLE), "version 3"),
+            ("add full 0,0,0,0,0,0 " + web_text(FULL), "version 2"),
+            ("add tri 0,0,0 " + web_text(TRIANGLE), "version 3"),
             ("base full", "0,2,3,5;1,2,3,4"), ("made", "1"), ("base four", "0,1,2,3"), ("base tri", "none"),
-            ("base full", "0,2,3,5;1,2,3,4"), ("made", "3"), ("drop full", "version 4"), ("undo", "version 3"), ("made", "3"),
+            ("base full", "0,2,3,5;1,2,3,4"), ("made", "3"), ("drop full", "version 4"), ("undo", "version 3"),
+            ("made", "3"),
         ))
 
     def test_trees_and_classes(self):
@@ -126,7 +139,8 @@ class Lines(unittest.TestCase):
     def test_two_shells_have_benches_of_their_own(self):
         one, other = Shell(), Shell()
         one.say("add a none 1:")
-        self.assertEqual((one.say("names"), other.say("names"), other.say("undo")), ("a", "none", "error NothingToUndo"))
+        self.assertEqual((one.say("names"), other.say("names"), other.say("undo")),
+                         ("a", "none", "error NothingToUndo"))
 
     def test_by_name(self):
         self.assertEqual(Shell().say(line="made"), "0")
@@ -145,38 +159,44 @@ class What(unittest.TestCase):
         self.check_what(values + [Bench(), Shell(), b"made", ["made"], ("made",), {"made": 1}, nested(39)])
 
     def test_words_that_are_none(self):
-        self.check_what(("", " ", "\n", "x" * 20000, " " * 20000, "what", "help", "MADE", "Made", "Undo", "NAMES", "names\n",
+        self.check_what(("", " ", "\n", "x" * 20000, " " * 20000, "what", "help", "MADE", "Made", "Undo", "NAMES",
+                         "names\n",
                          "\nnames", "made,", "batch ()", "batch", "do four ()", "at 1", "copy", "attempt", "search",
                          "edit", "log", "shelf", "version", "len", "error", "ad four none 1:", "addd x none 1:",
                          "ADD a none 1:", "Drop four", "made\u0020\u0020", "__init__", "say made"))
 
     def test_whole_lines(self):
         for word in ("undo", "redo", "names", "made"):
-            self.check_what((word + " ", " " + word, word + "  ", word + " four", word + "\n", word + " \n", word + "s", word[:-1],
+            self.check_what((word + " ", " " + word, word + "  ", word + " four", word + "\n", word + " \n", word + "s",
+                             word[:-1],
                              word + "," + word))
 
     def test_words_too_few_and_too_many(self):
         lines = []
-        for line in ("drop four", "tie four 0 1 5", "untie four 0", "pinch four 0", "stand four 0,0,0,0", "star four 0 1",
+        for line in ("drop four", "tie four 0 1 5", "untie four 0", "pinch four 0", "stand four 0,0,0,0",
+                     "star four 0 1",
                      "round four 0,1 1", "show four", "base four", "trees four", "classes four"):
             parts = line.split(" ")
             lines += [" ".join(parts[:k]) for k in range(1, len(parts))]
             lines += [line + " ", line + "  ", line + " 0", line + " x", " " + line, line + " \n"]
             lines += [" ".join(parts[:k]) + "  " + " ".join(parts[k:]) for k in range(1, len(parts))]
             lines += ["  ".join(parts), "\t".join(parts), "\n".join(parts), ",".join(parts), "".join(parts)]
-        lines += ["add", "add ", "add x", "add x ", "add x none", "add x  1:", "add  none 1:", "add x 1:", "add  x none 1:"]
+        lines += ["add", "add ", "add x", "add x ", "add x none", "add x  1:", "add  none 1:", "add x 1:",
+                  "add  x none 1:"]
         lines += ["find", "find ", "find none", "find  1:", "find 1:", "find  none 1:", " find none 1:", "find 0,0"]
         self.check_what(lines)
 
     def test_integers_that_are_none(self):
         for text in NO_INTS:
             self.check_what((f"tie tri {text} 1 5", f"tie tri 0 {text} 5", f"tie tri 0 1 {text}", f"untie four {text}",
-                             f"pinch tri {text}", f"star four {text} 1", f"star four 0 {text}", f"round four 0,1 {text}"))
+                             f"pinch tri {text}", f"star four {text} 1", f"star four 0 {text}",
+                             f"round four 0,1 {text}"))
         for text in NO_INTSS:
             self.check_what((f"stand four {text}", f"round four {text} 1", f"add x {text} 1:", f"find {text} 1:"))
 
     def test_ahead_of_errors(self):
-        self.check_what(("drop", "untie x 01", "stand x ", "star x 0 -0", "add X 01 2:", "find 01 2:", "round x 0,,1 1"))
+        self.check_what(("drop", "untie x 01", "stand x ", "star x 0 -0", "add X 01 2:", "find 01 2:",
+                         "round x 0,,1 1"))
 
     def test_integers_of_six_figures(self):
         s = some_shell()
@@ -196,7 +216,8 @@ class What(unittest.TestCase):
     def test_names_of_other_signs(self):
         s = some_shell()
         for name in ("FOUR", "four\n", "\n", "four,tri", "-", "7", "a" * 9000, "\u00e4", "none"):
-            for line in ("drop {}", "tie {} 0 1 2", "untie {} 0", "pinch {} 0", "stand {} none", "star {} 0 1", "round {} 0 1",
+            for line in ("drop {}", "tie {} 0 1 2", "untie {} 0", "pinch {} 0", "stand {} none", "star {} 0 1",
+                         "round {} 0 1",
                          "show {}", "base {}", "trees {}", "classes {}"):
                 self.assertEqual(s.say(line.replace("{}", name)), "error NoName")
             self.assertEqual(s.say(f"add {name} none 1:"), "error Unfit" if name != "none" else "version 4")

@@ -38,7 +38,8 @@ class Rows(unittest.TestCase):
     def test_each_step_and_each_turn_once(self):
         for table in bent_tables():
             ties = range(len(table[0][1]))
-            self.assertEqual(sorted(step for row in all_faces(table) for step in row), [(k, side) for k in ties for side in (0, 1)])
+            self.assertEqual(sorted(step for row in all_faces(table) for step in row),
+                             [(k, side) for k in ties for side in (0, 1)])
             gone = sorted((tie, turn) for row in all_walks(table) for tie, _, turn in row)
             self.assertEqual(gone, [(k, turn) for k in ties for turn in (0, 1)])
 
