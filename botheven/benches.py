@@ -72,12 +72,12 @@ class Bench:
         self._shelf = stood[-1][1] if stood else ()
         self._names = tuple([row[0] for row in self._shelf])
 
-    def edit(self, edit):
+    def edit(self, told):
         """Do an edit that is told as a tuple of its word and its arguments; return the new version."""
-        shelf = edited(self._shelf, edit)
+        shelf = edited(self._shelf, told)
         if len(self._stood) == MAX_EDITS:
             raise TooManyEdits()
-        self._go_to(self._stood + ((edit, shelf),), ())
+        self._go_to(self._stood + ((told, shelf),), ())
         return self.version
 
     def add(self, name, web, standing):

@@ -45,7 +45,6 @@ def grid(m, n):
 
 def ladder(n):
     """Return the web of two rows of n places."""
-    _need_size(n, 1, MAX_PLACES // 2)
     return grid(2, n)
 
 
@@ -57,7 +56,7 @@ def full(n):
 
 def full_two(m, n):
     """Return the web of m places and n places with a tie between each of these and each of those."""
-    _need_size(m, 1, MAX_PLACES - 1)
+    _need_size(m, 1, MAX_PLACES)
     _need_size(n, 1, MAX_PLACES - m)
     return m + n, tuple([(one, other) for one in range(m) for other in range(m, m + n)])
 

@@ -12,7 +12,7 @@ def pole_type(web, one, other):
     matrix = matrix_of(web)
     told = [place for place in range(web[0]) if place not in (one, other)] + [one]
     rows = []
-    for place in [place for place in range(web[0]) if place != one]:
+    for place in told[:-1] + [other]:
         # What the colour of this place alone makes odd: at the places between, at the one pole, and the push.
         rows.append(mask_of_figures([matrix[place][there] & 1 for there in told] + [int(place == other)]))
     base = reduced(rows)

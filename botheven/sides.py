@@ -1,6 +1,5 @@
 """Side lots: lots that are cuts of places and of faces of one table, and so of its turn walks, too."""
 
-from botheven.errors import Unfit
 from botheven.evens import all_from
 from botheven.lots import cut_of, is_cut, lot_error, places_of_cut
 from botheven.masks import lot_behind, mask_of, reduced
@@ -59,7 +58,5 @@ def side_many(table):
 
 def side_colours(table, lot):
     """Return the places, the faces and the walks, without the numbers 0, whose cut the side lot is."""
-    if not is_side(table, lot):
-        raise Unfit()
-    # What is a cut of places and of faces is one of walks, too.
+    # What is no side lot is no cut of places, or none of faces, and raises Unfit as such.
     return tuple([places_of_cut(web, lot) for web in (table[0], _face_web(table), _walk_web(table))])
