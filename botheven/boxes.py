@@ -67,13 +67,11 @@ def _part_from(changes, top, start):
     queue = [start]
     # Standings that need fewer steps come first, so the ways that are told are short.
     while queue:
-        waiting = []
-        for standing in queue:
-            for deed, goal in _steps(changes, top, standing):
-                if goal not in found:
-                    found[goal] = (deed, standing)
-                    waiting.append(goal)
-        queue = waiting
+        standing = queue.pop(0)
+        for deed, goal in _steps(changes, top, standing):
+            if goal not in found:
+                found[goal] = (deed, standing)
+                queue.append(goal)
     return found
 
 

@@ -67,6 +67,85 @@ def bound_names(tree):
     return found
 
 
+def function_of(text):
+    """Return the tree of a function with these rows."""
+    return ast.parse("def some():\n" + "\n".join("    " + row for row in text.split("\n")))
+
+
+def stands_for(node):
+    """Return the words of all that an expression may be the very object of: names, attributes, items, choices."""
+    if isinstance(node, ast.IfExp):
+        return stands_for(node.body) | stands_for(node.orelse)
+    if isinstance(node, ast.BoolOp):
+        return {word for value in node.values for word in stands_for(value)}
+    if isinstance(node, ast.Subscript) and isinstance(node.slice, ast.Slice):
+        return set()
+    return {ast.unparse(node)} if isinstance(node, (ast.Name, ast.Attribute, ast.Subscript)) else set()
+
+
+def walked(node):
+    """Return the words of all that a loop over this expression goes over, or may go over where it calls a function."""
+    if isinstance(node, ast.Call) and isinstance(node.func, ast.Attribute):
+        return stands_for(node.func.value) if node.func.attr in ("items", "keys", "values") else set()
+    if isinstance(node, ast.Call):
+        # These make something new; any other function may hand back what it takes.
+        fresh = ast.unparse(node.func) in ("dict", "list", "range", "sorted", "tuple")
+        return set() if fresh else {word for one in node.args for word in walked(one)}
+    return stands_for(node)
+
+
+def changed_by(node):
+    """Return the words of all that this node itself changes."""
+    changing = ("add", "append", "clear", "discard", "extend", "insert", "pop", "remove", "reverse", "setdefault",
+                "sort", "update")
+    if isinstance(node, ast.Call) and isinstance(node.func, ast.Attribute) and node.func.attr in changing:
+        return stands_for(node.func.value)
+    if isinstance(node, ast.Subscript) and not isinstance(node.ctx, ast.Load):
+        return stands_for(node.value)
+    return stands_for(node.target) if isinstance(node, ast.AugAssign) else set()
+
+
+def given_names(function):
+    """Return the sets of words that assignments of a function make names of one object, whatever their order."""
+    lots = []
+    for node in [node for node in ast.walk(function) if isinstance(node, ast.Assign)]:
+        pairs = [(target, node.value) for target in node.targets]
+        for target in node.targets:
+            if isinstance(target, ast.Tuple) and isinstance(node.value, ast.Tuple):
+                pairs += zip(target.elts, node.value.elts)
+        words = [(stands_for(target), stands_for(value)) for target, value in pairs]
+        if len(node.targets) > 1:
+            words.append((set(), {word for target in node.targets for word in stands_for(target)}))
+        lots += [one | other for one, other in words]
+    return lots
+
+
+def all_names(words, lots):
+    """Return words with all others that the lots make names of the same objects."""
+    found = set(words)
+    while any(lot & found and not lot <= found for lot in lots):
+        found.update(*[lot for lot in lots if lot & found])
+    return found
+
+
+def changed_while_walked(tree):
+    """Return the rows where a loop or comprehension changes what it goes over, by whatever name."""
+    found = []
+    for function in [node for node in ast.walk(tree) if isinstance(node, ast.FunctionDef)]:
+        lots = given_names(function)
+        for loop in ast.walk(function):
+            over = []
+            if isinstance(loop, ast.For):
+                over, inside = [loop.iter], loop.body
+            elif isinstance(loop, (ast.ListComp, ast.DictComp, ast.SetComp, ast.GeneratorExp)):
+                over, inside = [one.iter for one in loop.generators], [loop]
+            names = all_names({word for one in over for word in walked(one)}, lots)
+            if names:
+                nodes = [node for part in inside for node in ast.walk(part)]
+                found += [node.lineno for node in nodes if changed_by(node) & names]
+    return found
+
+
 class Language(unittest.TestCase):
     def each_file(self):
         """Return the triples of a file's name, text and tree."""
@@ -232,16 +311,51 @@ class Language(unittest.TestCase):
                         self.assertTrue(any(node is one for one in fine), ast.unparse(node))
 
     def test_what_a_loop_goes_over_is_not_changed_in_it(self):
-        changing = ("append", "extend", "insert", "pop", "remove")
-        for _, _, tree in self.each_file():
-            for loop in [node for node in ast.walk(tree) if isinstance(node, ast.For)]:
-                over = {node.id for node in ast.walk(loop.iter) if isinstance(node, ast.Name)}
-                for node in [node for part in loop.body for node in ast.walk(part)]:
-                    if isinstance(node, ast.Call) and isinstance(node.func, ast.Attribute):
-                        if node.func.attr in changing:
-                            self.assertNotIn(ast.unparse(node.func.value), over)
-                    if isinstance(node, ast.Subscript) and isinstance(node.ctx, ast.Store):
-                        self.assertNotIn(ast.unparse(node.value), over)
+        for name, _, tree in self.each_file():
+            self.assertEqual(changed_while_walked(tree), [], name)
+
+    def test_changes_under_a_second_name_are_seen(self):
+        wrong = (
+            "for x in xs: xs.append(x)",
+            "for k, x in enumerate(xs): xs[k] = x",
+            "for k, x in d.items(): del d[k]",
+            "for x in reversed(xs): xs += [x]",
+            "for x, y in zip(xs, ys): ys.pop()",
+            "for x in box.rows: box.rows.append(x)",
+            "for x in rows[0]: rows[0].append(x)",
+            "for x in near(xs): xs.append(x)",
+            "for x in xs if xs else ys: ys.append(x)",
+            "for x in xs or ys: xs.append(x)",
+            "ys = xs\nfor x in xs: ys.append(x)",
+            "while xs:\n  ys = []\n  for x in xs: ys.append(x)\n  xs = ys",
+            "while xs:\n  ys = []\n  for x in xs:\n    for y in x: ys.append(y)\n  xs = ys",
+            "ys = zs\nxs = zs\nfor x in xs: ys.append(x)",
+            "xs, ys = ys, []\nfor x in xs: ys.append(x)",
+            "ys = xs if n else []\nfor x in xs: ys.append(x)",
+            "ys = n or xs\nfor x in xs: ys.append(x)",
+            "ys = box.rows\nfor x in box.rows: ys.append(x)",
+            "box.rows = xs\nfor x in xs: box.rows.append(x)",
+            "ys = rows[0]\nfor x in rows[0]: ys.append(x)",
+            "xs = ys = []\nfor x in xs: ys.append(x)",
+            "return [xs.pop() for x in xs]",
+            "ys = xs\nreturn {x: ys.pop() for x in xs}",
+        )
+        for text in wrong:
+            self.assertNotEqual(changed_while_walked(function_of(text)), [], text)
+        fine = (
+            "for x in list(xs): xs.append(x)",
+            "ys = list(xs)\nfor x in xs: ys.append(x)",
+            "ys = xs[:]\nfor x in xs: ys.append(x)",
+            "ys = [x for x in xs]\nfor x in xs: ys.append(x)",
+            "for x in xs: ys.append(x)",
+            "for x in sorted(d): d[x] = 1",
+            "for k in range(len(xs)): xs[k] = k",
+            "while xs:\n  x = xs.pop(0)\n  for y in near(x): xs.append(y)",
+            "for x in xs: pass\nxs.append(1)",
+            "for row in rows: row.append(1)",
+        )
+        for text in fine:
+            self.assertEqual(changed_while_walked(function_of(text)), [], text)
 
 
 if __name__ == "__main__":
